@@ -1,0 +1,1 @@
+"""Calmfabric: networks without deadlock."""
