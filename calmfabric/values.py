@@ -3,8 +3,13 @@
 
 def is_number(value, low, high):
     """Tell whether any value is an integer from low to high."""
+    return is_from(value, low) and value <= high
+
+
+def is_from(value, low):
+    """Tell whether any value is an integer from low on."""
     # Python counts True and False among the integers, the document does not.
-    return isinstance(value, int) and not isinstance(value, bool) and low <= value <= high
+    return isinstance(value, int) and not isinstance(value, bool) and low <= value
 
 
 def is_tuple_of(value, length):

@@ -16,6 +16,23 @@ WRONG_KINDS = (None, True, False, "", "0", "1", "nodes", deep(80), deep(80, (0, 
 WRONG_INTEGERS = (-1, -2, 10 ** 3000, -10 ** 3000)
 
 
+def put_at(value, path, new):
+    """The value with something else at a path of indexes."""
+    if not path:
+        return new
+    k = path[0]
+    return value[:k] + (put_at(value[k], path[1:], new),) + value[k + 1:]
+
+
+def paths_of(value, path=()):
+    """The paths to all parts of a value, the value itself among them."""
+    found = [path]
+    if isinstance(value, tuple):
+        for k, part in enumerate(value):
+            found.extend(paths_of(part, path + (k,)))
+    return found
+
+
 def table_of(n, cells):
     """The table with the options that a dict has for pairs (u, d)."""
     return tuple(tuple(tuple(cells.get((u, d), ())) for d in range(n)) for u in range(n))

@@ -7,7 +7,9 @@ import unittest
 
 from samples import DOUBLE, FABRICS, PAIR, deep, greatest, random_network, random_table, ring
 
-from calmfabric import errors, networks, tables, texts
+from calmfabric import (
+    distances, errors, frames, known_ranks, networks, packets, routings, tables, texts,
+)
 
 ROOT = os.path.dirname(os.path.dirname(os.path.abspath(__file__)))
 
@@ -24,7 +26,38 @@ INTERFACE = {
         "renamed": ("fabric", "nodes", "channels"),
     },
     "calmfabric.texts": {"print_fabric": ("fabric",), "read_fabric": ("text",)},
+    "calmfabric.frames": {
+        "is_frame": ("value",), "line": ("n",), "ring": ("n",), "complete": ("n",), "star": ("n",), "tree": ("parents",),
+        "mesh": ("sizes",), "torus": ("sizes",), "groups": ("count", "size"), "node_at": ("sizes", "place"),
+        "place_of": ("sizes", "node"), "network_of": ("frame", "lanes", "room"),
+        "channel_number": ("lanes", "link", "direction", "lane"), "link_of": ("lanes", "c"),
+    },
+    "calmfabric.distances": {"distances": ("network",), "is_connected": ("network",)},
+    "calmfabric.routings": {
+        "shortest": ("network",), "dimension_order": ("sizes", "lanes"), "dateline": ("sizes", "lanes"),
+        "negative_first": ("sizes", "lanes"), "west_first": ("sizes", "lanes"), "north_last": ("sizes", "lanes"),
+        "up_down": ("network", "root"), "in_lanes": ("network", "table", "lanes", "chosen"),
+        "with_escape": ("network", "base", "other"),
+    },
+    "calmfabric.known_ranks": {
+        "dimension_ranks": ("sizes", "lanes"), "dateline_ranks": ("sizes", "lanes"),
+        "negative_ranks": ("sizes", "lanes"), "west_ranks": ("sizes", "lanes"), "north_ranks": ("sizes", "lanes"),
+        "up_down_ranks": ("network", "root"), "escape_ranks": ("network", "base", "ranks"),
+        "are_ranks": ("network", "table", "value"),
+    },
+    "calmfabric.packets": {
+        "empty_state": ("fabric",), "is_state": ("fabric", "value"), "is_step": ("value",),
+        "first_of": ("state", "c"), "is_full": ("fabric", "state", "c"), "packets_in": ("state",),
+        "is_possible": ("fabric", "state", "step"), "possible_steps": ("fabric", "state"),
+        "after": ("fabric", "state", "step"), "play": ("fabric", "state", "script"), "puts": ("fabric", "queues"),
+    },
 }
+CONSTANTS = {
+    "calmfabric.networks": {"MAX_NODES": 64, "MAX_CHANNELS": 400, "MAX_ROOM": 1000},
+    "calmfabric.frames": {"MAX_LANES": 8},
+}
+# These answer True or False, like those whose names begin with "is_".
+ANSWERS = ("are_ranks",)
 ERRORS = ("FabricError", "BadText", "NotPossible", "NotAllowed", "NoAnswer")
 
 
@@ -42,7 +75,75 @@ def has_bool(value):
 
 
 def calls_of(fabric):
-    """Each function of the interface with arguments that belong to a fabric."""
+    """Each function of the interface with arguments, those of part 1 and 4 with ones that belong to a fabric."""
+    yield from first_calls_of(fabric)
+    yield from packet_calls_of(fabric)
+    yield from KNOWN_CALLS
+
+
+def packet_calls_of(fabric):
+    """Each function of part 4, and those of parts 2 and 3 that take any network or table."""
+    network, table = fabric
+    channels = network[1]
+    puts = tuple(("put", channels[c][0], d, c) for c, d in networks.placements(fabric)[:1])
+    state = packets.play(fabric, packets.empty_state(fabric), puts)
+    c = puts[0][3] if puts else 0
+    yield distances.distances, (network,)
+    yield distances.is_connected, (network,)
+    yield routings.shortest, (network,)
+    yield routings.in_lanes, (network, table, 2, (0,))
+    yield known_ranks.are_ranks, (network, table, (0,) * len(channels))
+    yield packets.empty_state, (fabric,)
+    yield packets.is_state, (fabric, state)
+    yield packets.is_step, (("go", 0, 1),)
+    yield packets.first_of, (state, c)
+    yield packets.is_full, (fabric, state, c)
+    yield packets.packets_in, (state,)
+    yield packets.is_possible, (fabric, state, ("go", c, 0))
+    yield packets.possible_steps, (fabric, state)
+    for step in packets.possible_steps(fabric, state)[:1]:
+        yield packets.after, (fabric, state, step)
+        yield packets.play, (fabric, state, (step,))
+    yield packets.puts, (fabric, tuple(tuple(goal for _, goal in queue) for queue in state[1]))
+
+
+MESH = frames.network_of(frames.mesh((2, 3)), 2, 4)
+BASE = routings.in_lanes(MESH, routings.dimension_order((2, 3), 2), 2, (0,))
+OTHER = routings.in_lanes(MESH, routings.shortest(MESH), 2, (1,))
+KNOWN_CALLS = (
+    (frames.is_frame, ((3, ((0, 1), (1, 2))),)),
+    (frames.line, (4,)),
+    (frames.ring, (4,)),
+    (frames.complete, (4,)),
+    (frames.star, (4,)),
+    (frames.tree, ((0, 0, 1),)),
+    (frames.mesh, ((2, 3),)),
+    (frames.torus, ((2, 3),)),
+    (frames.groups, (3, 2)),
+    (frames.node_at, ((2, 3), (1, 2))),
+    (frames.place_of, ((2, 3), 5)),
+    (frames.network_of, ((3, ((0, 1), (1, 2))), 2, 7)),
+    (frames.channel_number, (3, 4, 1, 2)),
+    (frames.link_of, (3, 29)),
+    (routings.dimension_order, ((2, 3), 2)),
+    (routings.dateline, ((2, 3), 2)),
+    (routings.negative_first, ((2, 3), 2)),
+    (routings.west_first, ((2, 3), 2)),
+    (routings.north_last, ((2, 3), 2)),
+    (routings.up_down, (MESH, 3)),
+    (routings.with_escape, (MESH, BASE, OTHER)),
+    (known_ranks.dimension_ranks, ((2, 3), 2)),
+    (known_ranks.dateline_ranks, ((2, 3), 2)),
+    (known_ranks.negative_ranks, ((2, 3), 2)),
+    (known_ranks.west_ranks, ((2, 3), 2)),
+    (known_ranks.north_ranks, ((2, 3), 2)),
+    (known_ranks.up_down_ranks, (MESH, 3)),
+    (known_ranks.escape_ranks, (MESH, BASE, known_ranks.dimension_ranks((2, 3), 2))),
+)
+
+
+def first_calls_of(fabric):
+    """Each function of part 1."""
     network, table = fabric
     n, channels = network
     source, target, _ = channels[0]
@@ -81,8 +182,13 @@ class InterfaceTest(unittest.TestCase):
             self.assertEqual(getattr(errors, name).__module__, "calmfabric.errors")
 
     def test_all_functions_of_the_interface_are_called_here(self):
-        called = {function.__name__ for function, _ in calls_of(PAIR)}
-        self.assertEqual(called, {name for functions in INTERFACE.values() for name in functions})
+        called = {(function.__module__, function.__name__) for function, _ in calls_of(PAIR)}
+        self.assertEqual(called, {(module, name) for module, functions in INTERFACE.items() for name in functions})
+
+    def test_constants(self):
+        for module_name, constants in CONSTANTS.items():
+            for name, number in constants.items():
+                self.assertEqual(getattr(importlib.import_module(module_name), name), number)
 
 
 class DataTest(unittest.TestCase):
@@ -97,7 +203,7 @@ class DataTest(unittest.TestCase):
         for fabric in FABRICS:
             for function, arguments in calls_of(fabric):
                 result = function(*arguments)
-                if function.__name__.startswith("is_"):
+                if function.__name__.startswith("is_") or function.__name__ in ANSWERS:
                     self.assertIs(type(result), bool)
                 elif type(result) is list:
                     self.assertTrue(is_data(tuple(result)) and not has_bool(tuple(result)), function.__name__)
@@ -127,8 +233,11 @@ class DataTest(unittest.TestCase):
         for value in values:
             self.assertIs(networks.is_network(value), False)
             self.assertIs(networks.is_fabric(value), False)
+            self.assertIs(frames.is_frame(value), False)
+            self.assertIs(packets.is_step(value), False)
             for fabric in FABRICS:
                 self.assertIs(networks.is_table(fabric[0], value), False)
+                self.assertIs(packets.is_state(fabric, value), False)
 
 
 class ExamplesTest(unittest.TestCase):

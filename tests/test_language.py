@@ -1,6 +1,7 @@
 """The rules of the language that can be seen at a glance; L1 to L28 are told in ../shared/LANGUAGE.md."""
 
 import ast
+import builtins
 import os
 import unittest
 
@@ -11,6 +12,19 @@ LIBRARY = {
     "itertools": ("product", "combinations", "permutations", "chain", "accumulate", "pairwise", "islice", "zip_longest"),
     "collections": ("defaultdict",),
 }
+
+BUILTINS = (
+    "len range enumerate zip min max sum abs sorted reversed int str bool bytes list tuple dict set frozenset isinstance "
+    "ord repr any all divmod pow getattr hasattr setattr Exception ValueError TypeError KeyError IndexError LookupError "
+    "ZeroDivisionError ArithmeticError OverflowError RuntimeError NotImplementedError AttributeError StopIteration "
+    "NotImplemented iter next super"
+).split()
+METHODS = (
+    "append clear copy count endswith extend find get index insert isalnum isalpha isdigit islower isspace isupper items "
+    "join keys ljust lower lstrip partition pop remove replace reverse rfind rjust rpartition rsplit rstrip setdefault split "
+    "splitlines startswith strip update upper values zfill bit_length isdecimal sort add discard __init__"
+).split()
+NOWHERE = ("register", "mro", "elements", "open", "input", "law", "version_info", "with_traceback", "add_note", "exit", "id")
 
 
 def sources():
@@ -78,6 +92,46 @@ class LanguageTest(unittest.TestCase):
                 docstring = k == 0 and isinstance(node, ast.Expr)
                 plain = isinstance(node, (ast.ImportFrom, ast.FunctionDef, ast.ClassDef, ast.Assign))
                 self.assertTrue(docstring or plain, (name, node.lineno))
+
+    def test_builtins_and_methods(self):
+        for name, data in sources().items():
+            tree = ast.parse(data)
+            for node in ast.walk(tree):
+                if isinstance(node, ast.Name) and isinstance(node.ctx, ast.Load) and hasattr(builtins, node.id):
+                    self.assertIn(node.id, BUILTINS, (name, node.lineno))
+                if isinstance(node, ast.Call) and isinstance(node.func, ast.Attribute):
+                    self.assertIn(node.func.attr, METHODS, (name, node.lineno))
+
+    def test_names_mean_one_thing(self):
+        for name, data in sources().items():
+            tree = ast.parse(data)
+            taken = [alias.name for node in tree.body if isinstance(node, ast.ImportFrom) for alias in node.names]
+            taken += [node.name for node in tree.body if isinstance(node, ast.ClassDef)]
+            top = taken + [node.name for node in tree.body if isinstance(node, ast.FunctionDef)]
+            top += [target.id for node in tree.body if isinstance(node, ast.Assign) for target in node.targets]
+            self.assertEqual(len(top), len(set(top)), name)
+            inner = [node.arg for node in ast.walk(tree) if isinstance(node, ast.arg)]
+            inner += [node.id for node in ast.walk(tree) if isinstance(node, ast.Name) and isinstance(node.ctx, ast.Store)]
+            for told in inner:
+                self.assertNotIn(told, taken, name)
+            for told in top + inner:
+                barred = hasattr(builtins, told) and told != "_" or told in NOWHERE or told.startswith("__")
+                self.assertFalse(barred, (name, told))
+            for node in ast.walk(tree):
+                if isinstance(node, ast.Name) and isinstance(node.ctx, ast.Load):
+                    self.assertNotEqual(node.id, "_", (name, node.lineno))
+
+    def test_no_file_imports_from_itself_through_others(self):
+        imports = {}
+        for name, data in sources().items():
+            nodes = [node for node in ast.parse(data).body if isinstance(node, ast.ImportFrom)]
+            imports[name] = [node.module.partition(".")[2] + ".py" for node in nodes if node.module not in LIBRARY]
+        left = dict(imports)
+        while left:
+            ends = [name for name in left if not set(left[name]) & set(left)]
+            self.assertNotEqual(ends, [], sorted(left))
+            for name in ends:
+                del left[name]
 
     def test_no_floats_and_no_division(self):
         for name, data in sources().items():

@@ -2,30 +2,13 @@ import unittest
 
 from samples import (
     CHAIN4, DOUBLE, DOUBLE_NETWORK, FABRICS, MIXED, NO_OPTIONS, PAIR, RING3, RING5, WRONG_INTEGERS, WRONG_KINDS,
-    deep, greatest, plain_dead_ends, random_fabric, random_network, random_table, ring, table_of,
+    deep, greatest, paths_of, plain_dead_ends, put_at, random_fabric, random_network, random_table, ring, table_of,
 )
 
 from calmfabric.networks import (
     MAX_CHANNELS, MAX_NODES, MAX_ROOM, dead_ends, is_fabric, is_full, is_home, is_network, is_table, options,
     placements, served,
 )
-
-
-def put_at(value, path, new):
-    """The value with something else at a path of indexes."""
-    if not path:
-        return new
-    k = path[0]
-    return value[:k] + (put_at(value[k], path[1:], new),) + value[k + 1:]
-
-
-def paths_of(value, path=()):
-    """The paths to all parts of a value, the value itself among them."""
-    found = [path]
-    if isinstance(value, tuple):
-        for k, part in enumerate(value):
-            found.extend(paths_of(part, path + (k,)))
-    return found
 
 
 class ValueTest(unittest.TestCase):
