@@ -8,7 +8,7 @@ import unittest
 from samples import DOUBLE, FABRICS, PAIR, deep, greatest, random_network, random_table, ring
 
 from calmfabric import (
-    distances, errors, frames, known_ranks, networks, packets, routings, tables, texts,
+    blocked, cases, distances, drains, errors, frames, known_ranks, networks, packets, routings, tables, texts, verdicts, ways,
 )
 
 ROOT = os.path.dirname(os.path.dirname(os.path.abspath(__file__)))
@@ -51,13 +51,32 @@ INTERFACE = {
         "is_possible": ("fabric", "state", "step"), "possible_steps": ("fabric", "state"),
         "after": ("fabric", "state", "step"), "play": ("fabric", "state", "script"), "puts": ("fabric", "queues"),
     },
+    "calmfabric.blocked": {
+        "greatest_jam": ("fabric", "state"), "is_jam": ("fabric", "state", "value"), "blocked": ("fabric", "state"),
+        "stuck_packets": ("fabric", "state"), "stop_of": ("fabric", "state", "c"), "way_out": ("fabric", "state", "c"),
+        "is_stop": ("fabric", "state", "c", "value"), "is_way_out": ("fabric", "state", "c", "value"),
+        "is_calm": ("fabric", "state"), "is_dead": ("fabric", "state"),
+    },
+    "calmfabric.cases": {
+        "is_case": ("value",), "case_of": ("fabric",), "case_placements": ("case",), "case_options": ("case", "c", "d"),
+    },
+    "calmfabric.verdicts": {
+        "verdict": ("case",), "least_ranks": ("case",), "greatest_knot": ("case",), "tight_knot": ("case",),
+        "is_ranks": ("case", "value"), "is_knot": ("case", "value"),
+    },
+    "calmfabric.drains": {"knot_script": ("network", "knot"), "drain": ("fabric", "state", "ranks")},
+    "calmfabric.ways": {
+        "least_lengths": ("fabric", "d"), "astray": ("fabric",), "find_loop": ("fabric", "d"),
+        "is_loop": ("fabric", "d", "value"), "greatest_lengths": ("fabric", "d"),
+        "are_heights": ("fabric", "d", "value"), "arrives": ("fabric",), "first_way": ("fabric", "c", "d"),
+    },
 }
 CONSTANTS = {
     "calmfabric.networks": {"MAX_NODES": 64, "MAX_CHANNELS": 400, "MAX_ROOM": 1000},
     "calmfabric.frames": {"MAX_LANES": 8},
 }
 # These answer True or False, like those whose names begin with "is_".
-ANSWERS = ("are_ranks",)
+ANSWERS = ("are_ranks", "are_heights", "arrives")
 ERRORS = ("FabricError", "BadText", "NotPossible", "NotAllowed", "NoAnswer")
 
 
@@ -78,6 +97,8 @@ def calls_of(fabric):
     """Each function of the interface with arguments, those of part 1 and 4 with ones that belong to a fabric."""
     yield from first_calls_of(fabric)
     yield from packet_calls_of(fabric)
+    yield from stuck_calls_of(fabric)
+    yield from way_calls_of(fabric)
     yield from KNOWN_CALLS
 
 
@@ -105,6 +126,62 @@ def packet_calls_of(fabric):
         yield packets.after, (fabric, state, step)
         yield packets.play, (fabric, state, (step,))
     yield packets.puts, (fabric, tuple(tuple(goal for _, goal in queue) for queue in state[1]))
+
+
+def stuck_calls_of(fabric):
+    """Each function of parts 5 and 6."""
+    state = full_state(fabric)
+    case = cases.case_of(fabric)
+    word, told = verdicts.verdict(case)
+    yield blocked.greatest_jam, (fabric, state)
+    yield blocked.is_jam, (fabric, state, (0,))
+    yield blocked.blocked, (fabric, state)
+    yield blocked.stuck_packets, (fabric, state)
+    for c, queue in enumerate(state[1][:9]):
+        if queue:
+            yield blocked.stop_of, (fabric, state, c)
+            yield blocked.way_out, (fabric, state, c)
+    yield blocked.is_stop, (fabric, state, 0, (0,))
+    yield blocked.is_way_out, (fabric, state, 0, (("out", 0),))
+    yield blocked.is_calm, (fabric, state)
+    yield blocked.is_dead, (fabric, state)
+    yield cases.is_case, (case,)
+    yield cases.case_of, (fabric,)
+    yield cases.case_placements, (case,)
+    yield cases.case_options, (case, 0, fabric[0][1][0][1])
+    yield verdicts.verdict, (case,)
+    yield verdicts.least_ranks, (case,)
+    yield verdicts.greatest_knot, (case,)
+    yield verdicts.tight_knot, (case,)
+    yield verdicts.is_ranks, (case, told)
+    yield verdicts.is_knot, (case, told)
+    yield drains.knot_script, (fabric[0], told if word == "knot" else ())
+    if word == "ranks":
+        yield drains.drain, (fabric, state, told)
+
+
+def full_state(fabric):
+    """A state with at most three packets in each channel, as far from home as there are."""
+    goals = {}
+    for c, d in networks.placements(fabric):
+        if d != fabric[0][1][c][1] or c not in goals:
+            goals[c] = d
+    queues = [(goals[c],) * min(room, 3) if c in goals else () for c, (_, _, room) in enumerate(fabric[0][1])]
+    return packets.play(fabric, packets.empty_state(fabric), packets.puts(fabric, tuple(queues)))
+
+
+def way_calls_of(fabric):
+    """Each function of part 7."""
+    many = len(fabric[0][1])
+    yield ways.least_lengths, (fabric, 1)
+    yield ways.astray, (fabric,)
+    yield ways.find_loop, (fabric, 1)
+    yield ways.is_loop, (fabric, 1, (0,))
+    yield ways.greatest_lengths, (fabric, 1)
+    yield ways.are_heights, (fabric, 1, (1,) * many)
+    yield ways.arrives, (fabric,)
+    for c, d in networks.placements(fabric)[:9]:
+        yield ways.first_way, (fabric, c, d)
 
 
 MESH = frames.network_of(frames.mesh((2, 3)), 2, 4)
@@ -235,9 +312,19 @@ class DataTest(unittest.TestCase):
             self.assertIs(networks.is_fabric(value), False)
             self.assertIs(frames.is_frame(value), False)
             self.assertIs(packets.is_step(value), False)
+            self.assertIs(cases.is_case(value), False)
             for fabric in FABRICS:
                 self.assertIs(networks.is_table(fabric[0], value), False)
                 self.assertIs(packets.is_state(fabric, value), False)
+                state = full_state(fabric)
+                self.assertIs(blocked.is_jam(fabric, state, value), False)
+                self.assertIs(blocked.is_stop(fabric, state, 0, value), False)
+                self.assertIs(blocked.is_way_out(fabric, state, 0, value), False)
+                # Two equal numbers are ranks for the two channels of PAIR.
+                self.assertIs(fabric != PAIR and verdicts.is_ranks(cases.case_of(fabric), value), False)
+                self.assertIs(verdicts.is_knot(cases.case_of(fabric), value), False)
+                self.assertIs(ways.is_loop(fabric, 1, value), False)
+                self.assertIs(ways.are_heights(fabric, 1, value), False)
 
 
 class ExamplesTest(unittest.TestCase):

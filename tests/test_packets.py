@@ -4,87 +4,21 @@ import random
 import unittest
 
 from samples import (
-    CHAIN4, DOUBLE, FABRICS, MIXED, NO_OPTIONS, PAIR, RING3, RING5, WRONG_INTEGERS, WRONG_KINDS, deep, greatest, paths_of,
-    put_at, random_fabric, table_of,
+    CHAIN4, DOUBLE, MIXED, NO_OPTIONS, PAIR, RING3, RING5, WRONG_INTEGERS, WRONG_KINDS, deep, greatest, paths_of, put_at,
+    random_fabric, table_of,
 )
+from worlds import EXAMPLE, MESH, TORUS, drawn_script, plain_after, plain_possible, states_of
+from worlds import SEVERAL as WORLDS
 
 from calmfabric.errors import FabricError, NotAllowed, NotPossible
-from calmfabric.frames import mesh, network_of, torus
+from calmfabric.frames import mesh, network_of
 from calmfabric.networks import is_home, placements
 from calmfabric.packets import (
     after, empty_state, first_of, is_full, is_possible, is_state, is_step, packets_in, play, possible_steps, puts,
 )
-from calmfabric.routings import dateline, dimension_order, shortest
-from calmfabric.texts import read_fabric
+from calmfabric.routings import dimension_order
 
-EXAMPLE = read_fabric(
-    "nodes 3\nchannel 0 1 1\nchannel 1 2 1\nchannel 2 0 1\nat 0 to 1 : 0\nat 0 to 2 : 0\nat 1 to 2 : 1"
-)
-TORUS = (network_of(torus((3, 3)), 2, 2), dateline((3, 3), 2))
-MESH = (network_of(mesh((2, 3)), 1, 3), shortest(network_of(mesh((2, 3)), 1, 3)))
-SEVERAL = FABRICS + (EXAMPLE, TORUS, MESH) + tuple(random_fabric(seed) for seed in range(25))
-
-
-def plain_possible(fabric, state):
-    """The possible steps by the words of [4.2], in the order that the interface tells."""
-    (n, channels), table = fabric
-    queues = state[1]
-    m = len(channels)
-    free = [len(queues[c]) < channels[c][2] for c in range(m)]
-    steps = []
-    for u, d, c in itertools.product(range(n), range(n), range(m)):
-        if c in table[u][d] and free[c]:
-            steps.append(("put", u, d, c))
-    for c, c2 in itertools.product(range(m), range(m)):
-        if queues[c] and c2 in table[channels[c][1]][queues[c][0][1]] and free[c2]:
-            steps.append(("go", c, c2))
-    for c in range(m):
-        if queues[c] and queues[c][0][1] == channels[c][1]:
-            steps.append(("out", c))
-    return steps
-
-
-class World:
-    """A fabric whose channels are deques, for one script."""
-
-    def __init__(self, fabric):
-        self.channels = [collections.deque() for _ in fabric[0][1]]
-        self.count = 0
-        self.gone = []
-
-    def do(self, step):
-        if step[0] == "put":
-            self.channels[step[3]].append((self.count, step[2]))
-            self.count += 1
-        elif step[0] == "go":
-            self.channels[step[2]].append(self.channels[step[1]].popleft())
-        else:
-            self.gone.append((step[1], self.channels[step[1]].popleft()))
-
-    def state(self):
-        return (self.count, tuple(tuple(channel) for channel in self.channels))
-
-
-def drawn_script(fabric, seed, length=40):
-    """A script from the empty state, drawn step by step, and the world behind it."""
-    rng = random.Random(seed)
-    world = World(fabric)
-    script = []
-    # Some scripts fill the fabric, others move what is in it.
-    likely = rng.choice((0.2, 0.5, 0.9))
-    for _ in range(length):
-        steps = plain_possible(fabric, world.state())
-        moves = [step for step in steps if step[0] != "put"]
-        if not steps:
-            break
-        script.append(rng.choice(moves if moves and rng.random() > likely else steps))
-        world.do(script[-1])
-    return tuple(script), world
-
-
-def states_of(fabric, seeds=range(3)):
-    """States that scripts lead to, the empty one first."""
-    return [empty_state(fabric)] + [drawn_script(fabric, seed)[1].state() for seed in seeds]
+SEVERAL = WORLDS + tuple(random_fabric(seed) for seed in range(25))
 
 
 class StateTest(unittest.TestCase):
@@ -382,12 +316,7 @@ class StepsTest(unittest.TestCase):
         for fabric in SEVERAL:
             for state in states_of(fabric):
                 for step in possible_steps(fabric, state):
-                    count, queues = state
-                    world = World(fabric)
-                    world.channels = [collections.deque(queue) for queue in queues]
-                    world.count = count
-                    world.do(step)
-                    self.assertEqual(after(fabric, state, step), world.state())
+                    self.assertEqual(after(fabric, state, step), plain_after(fabric, state, step))
 
     def test_not_allowed(self):
         state = (1, (((0, 2),), (), ()))
