@@ -24,9 +24,8 @@ def can_jam(fabric, state, c):
 
 
 def is_at_home(fabric, state, c):
-    """Tell whether a channel has a first packet, and this is at home."""
-    packet = first_of(state, c)
-    return packet is not None and is_home(fabric, c, packet[1])
+    """Tell whether the first packet of a channel that is not empty is at home."""
+    return is_home(fabric, c, first_of(state, c)[1])
 
 
 def exits(fabric, state, c):
@@ -100,11 +99,10 @@ def blocked(fabric, state):
 
 def is_held(fabric, state, jam, c):
     """Tell whether a jam shows that a channel is blocked."""
-    inside = set(jam)
-    if c in inside:
-        return True
     if first_of(state, c) is None or is_at_home(fabric, state, c):
         return False
+    # The channels of the jam are such ones, too.
+    inside = set(jam)
     return all([option in inside for option in exits(fabric, state, c)])
 
 
@@ -159,7 +157,7 @@ def earliest_exit(fabric, state, stages, c):
 
 def is_way_out(fabric, state, c, value):
     """Tell whether any value is a way out for the channel."""
-    if not isinstance(value, tuple) or not value or first_of(state, c) is None:
+    if not isinstance(value, tuple) or first_of(state, c) is None:
         return False
     if not all([is_step(step) and step[0] != "put" for step in value]):
         return False

@@ -311,6 +311,11 @@ class StopTest(unittest.TestCase):
                             self.assertIs(is_way_out(fabric, state, c, script), True)
                             self.assertLessEqual(len(script), len(state[1]))
 
+    def test_empty_channels_have_neither(self):
+        for c in (3, 4):
+            self.assertIs(stop_of(BESIDE, JAMMED, c), None)
+            self.assertIs(way_out(BESIDE, JAMMED, c), None)
+
     def test_the_way_comes_back_to_its_channel(self):
         # Channel 0 has one packet and room for two; its option 1 is full and can only go back to 0.
         network = (3, ((0, 1, 2), (1, 0, 1), (0, 2, 1), (1, 2, 1)))
