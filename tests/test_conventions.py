@@ -8,7 +8,8 @@ import unittest
 from samples import DOUBLE, FABRICS, PAIR, deep, greatest, random_network, random_table, ring
 
 from calmfabric import (
-    blocked, cases, distances, drains, errors, frames, known_ranks, networks, packets, routings, tables, texts, verdicts, ways,
+    blocked, cases, distances, drains, errors, frames, known_ranks, networks, packets, rounds, routings, tables, texts,
+    verdicts, ways, wormplay, worms, wormtrees, wormways,
 )
 
 ROOT = os.path.dirname(os.path.dirname(os.path.abspath(__file__)))
@@ -70,10 +71,31 @@ INTERFACE = {
         "is_loop": ("fabric", "d", "value"), "greatest_lengths": ("fabric", "d"),
         "are_heights": ("fabric", "d", "value"), "arrives": ("fabric",), "first_way": ("fabric", "c", "d"),
     },
+    "calmfabric.rounds": {
+        "play_round": ("fabric", "state", "order"), "enough": ("fabric", "state"),
+        "settle": ("fabric", "state", "order", "limit"),
+    },
+    "calmfabric.worms": {
+        "empty_worms": (), "is_worm": ("fabric", "value"), "is_worm_state": ("fabric", "value"), "is_worm_step": ("value",),
+        "worm_length": ("worm",), "holder": ("state", "c"), "free_channels": ("fabric", "state"),
+    },
+    "calmfabric.wormplay": {
+        "is_worm_possible": ("fabric", "state", "step"), "possible_worm_steps": ("fabric", "state", "lengths"),
+        "worm_after": ("fabric", "state", "step"), "play_worms": ("fabric", "state", "script"), "gather": ("fabric", "state"),
+    },
+    "calmfabric.wormways": {
+        "is_way": ("fabric", "d", "value"), "way_options": ("fabric", "d", "way"), "least_length": ("network", "way"),
+        "candidates": ("fabric", "longest", "chosen", "barred", "c"),
+        "is_idle": ("fabric", "longest", "chosen", "barred", "c"),
+    },
+    "calmfabric.wormtrees": {
+        "worm_verdict": ("fabric", "longest"), "is_search_tree": ("fabric", "longest", "chosen", "barred", "value"),
+    },
 }
 CONSTANTS = {
     "calmfabric.networks": {"MAX_NODES": 64, "MAX_CHANNELS": 400, "MAX_ROOM": 1000},
     "calmfabric.frames": {"MAX_LANES": 8},
+    "calmfabric.worms": {"MAX_FLITS": 1000000},
 }
 # These answer True or False, like those whose names begin with "is_".
 ANSWERS = ("are_ranks", "are_heights", "arrives")
@@ -99,6 +121,8 @@ def calls_of(fabric):
     yield from packet_calls_of(fabric)
     yield from stuck_calls_of(fabric)
     yield from way_calls_of(fabric)
+    yield from worm_calls_of(fabric)
+    yield from worm_way_calls_of(fabric)
     yield from KNOWN_CALLS
 
 
@@ -173,6 +197,11 @@ def full_state(fabric):
 def way_calls_of(fabric):
     """Each function of part 7."""
     many = len(fabric[0][1])
+    state = full_state(fabric)
+    yield rounds.play_round, (fabric, state, tuple(range(many)))
+    yield rounds.settle, (fabric, state, tuple(range(many))[::-1], 9)
+    if ways.arrives(fabric):
+        yield rounds.enough, (fabric, state)
     yield ways.least_lengths, (fabric, 1)
     yield ways.astray, (fabric,)
     yield ways.find_loop, (fabric, 1)
@@ -182,6 +211,42 @@ def way_calls_of(fabric):
     yield ways.arrives, (fabric,)
     for c, d in networks.placements(fabric)[:9]:
         yield ways.first_way, (fabric, c, d)
+
+
+def worm_calls_of(fabric):
+    """Each function of part 8."""
+    channels = fabric[0][1]
+    state = worms.empty_worms()
+    for c, d in networks.placements(fabric)[:40]:
+        step = ("put", channels[c][0], d, c, 3)
+        if wormplay.is_worm_possible(fabric, state, step):
+            state = wormplay.worm_after(fabric, state, step)
+    yield worms.empty_worms, ()
+    for worm in state[1][:3]:
+        yield worms.is_worm, (fabric, worm)
+        yield worms.worm_length, (worm,)
+    yield worms.is_worm_state, (fabric, state)
+    yield worms.is_worm_step, (("take", 1),)
+    yield worms.holder, (state, 0)
+    yield worms.free_channels, (fabric, state)
+    yield wormplay.is_worm_possible, (fabric, state, ("feed", 0))
+    yield wormplay.possible_worm_steps, (fabric, state, (2, 1))
+    for step in wormplay.possible_worm_steps(fabric, state, (1,))[-3:]:
+        yield wormplay.worm_after, (fabric, state, step)
+        yield wormplay.play_worms, (fabric, state, (step,))
+    yield wormplay.gather, (fabric, state)
+
+
+def worm_way_calls_of(fabric):
+    """Each function of part 9."""
+    yield wormways.is_way, (fabric, 1, (0,))
+    for c, d in networks.placements(fabric)[:3]:
+        yield wormways.way_options, (fabric, d, (c,))
+        yield wormways.least_length, (fabric[0], (c,))
+    yield wormways.candidates, (fabric, 2, (), (), 0)
+    yield wormways.is_idle, (fabric, 2, (), (), 0)
+    yield wormtrees.worm_verdict, (fabric, 2)
+    yield wormtrees.is_search_tree, (fabric, 2, (), (), ("closed", (0,)))
 
 
 MESH = frames.network_of(frames.mesh((2, 3)), 2, 4)
@@ -280,6 +345,10 @@ class DataTest(unittest.TestCase):
         for fabric in FABRICS:
             for function, arguments in calls_of(fabric):
                 result = function(*arguments)
+                if function is rounds.play_round:
+                    # This one has a list in a tuple.
+                    self.assertIs(type(result[1]), list)
+                    result = result[:1] + (tuple(result[1]),)
                 if function.__name__.startswith("is_") or function.__name__ in ANSWERS:
                     self.assertIs(type(result), bool)
                 elif type(result) is list:
@@ -313,6 +382,7 @@ class DataTest(unittest.TestCase):
             self.assertIs(frames.is_frame(value), False)
             self.assertIs(packets.is_step(value), False)
             self.assertIs(cases.is_case(value), False)
+            self.assertIs(worms.is_worm_step(value), False)
             for fabric in FABRICS:
                 self.assertIs(networks.is_table(fabric[0], value), False)
                 self.assertIs(packets.is_state(fabric, value), False)
@@ -325,6 +395,10 @@ class DataTest(unittest.TestCase):
                 self.assertIs(verdicts.is_knot(cases.case_of(fabric), value), False)
                 self.assertIs(ways.is_loop(fabric, 1, value), False)
                 self.assertIs(ways.are_heights(fabric, 1, value), False)
+                self.assertIs(worms.is_worm(fabric, value), False)
+                self.assertIs(worms.is_worm_state(fabric, value), False)
+                self.assertIs(wormways.is_way(fabric, 1, value), False)
+                self.assertIs(wormtrees.is_search_tree(fabric, 2, (), (), value), False)
 
 
 class ExamplesTest(unittest.TestCase):
