@@ -50,7 +50,8 @@ def stages_of(many, cells, barred):
     while going:
         for c in going:
             stages[c] = stage
-        opening = [k for k in sorted({door for c in going for door in doors[c]}) if shut[k]]
+        reached = sorted({k for c in going for k in doors[c]})
+        opening = [k for k in reached if shut[k]]
         for k in opening:
             shut[k] = False
         freed = []

@@ -6,12 +6,27 @@ from calmfabric.verdicts import greatest_knot
 from calmfabric.wormways import busy_channels, candidates, usable_channels, way_options
 
 
+# Lengths of worms that are tried before greater ones.
+SHORTER = (2, 8, 64)
+
+
 def worm_verdict(fabric, longest):
     """Return the pair of "knot" and a worm knot, or of "tree" and a search tree for the situation without anything."""
     knot = greatest_knot(case_of(fabric))
     if knot is not None:
         # Ways of one channel each are short enough for all worms.
         return ("knot", tuple(sorted([(d, (c,)) for c, d in knot])))
+    # A knot for shorter worms is one for longer ones, too, and it is found sooner, for they have fewer ways.
+    for length in SHORTER:
+        if length < longest:
+            word, told = searched(fabric, length)
+            if word == "knot":
+                return (word, told)
+    return searched(fabric, longest)
+
+
+def searched(fabric, longest):
+    """Return what worm_verdict does, by splitting again and again."""
     heads = []
     waiting = [((), ())]
     while waiting:

@@ -82,7 +82,7 @@ def end_costs(fabric, usable, barred, d):
     channels = fabric[0][1]
     table = fabric[1]
     shut = set(barred)
-    queue = [(0, v) for v, row in enumerate(table) if row[d] and not any([c in shut for c in row[d]])]
+    queue = [(0, v) for v, row in enumerate(table) if row[d] and not any([option in shut for option in row[d]])]
     arriving = [[] for _ in table]
     for c in placed_channels(fabric, d):
         if usable[c]:

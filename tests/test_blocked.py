@@ -246,7 +246,8 @@ class JamTest(unittest.TestCase):
             (0, 1, 2), (1, 2, 3), (0, 1, 3), (0, 2, 3), (0, 1, 2, 4), (0, 1, 2, 3, 4), (0,), (3,),
             (0, 1, 2, 2), (0, 0, 1, 2, 3), (0, 1, 2, 3, 3), (3, 2, 1, 0), (0, 2, 1, 3), (1, 2, 3, 0),
             (0, 1, 2, 3, 5), (0, 1, 2, 5), (-1, 0, 1, 2, 3), (-5, 1, 2, 3), (0, 1, 2, 3, 400), (0, 1, 2, 10 ** 3000),
-            (False, 1, 2, 3), (0, True, 2, 3), ("0", 1, 2, 3), (0, 1, 2, None), (0, 1, 2, (3,)), ((0, 1, 2, 3),), [0, 1, 2, 3],
+            (False, 1, 2, 3), (0, True, 2, 3), ("0", 1, 2, 3), (0, 1, 2, None), (0, 1, 2, (3,)), ((0, 1, 2, 3),),
+            [0, 1, 2, 3],
             ((), ()), ((),), "0123", "", 0, 3, deep(80), deep(80, (0, 1, 2, 3)), {0: 1},
         ):
             self.assertIs(is_jam(BESIDE, state, value), False, value)
@@ -336,7 +337,8 @@ class StopTest(unittest.TestCase):
         for c in range(4):
             self.assertIs(is_stop(fabric, state, c, (0, 1, 2)), True)
             for value in (
-                (), (0, 1), (0, 1, 2, 3), (0, 1, 2, 4), (1, 2), (0, 1, 2, 2), (2, 1, 0), (0, 1, 5), (-3, -2, -1), (0, True, 2),
+                (), (0, 1), (0, 1, 2, 3), (0, 1, 2, 4), (1, 2), (0, 1, 2, 2), (2, 1, 0), (0, 1, 5), (-3, -2, -1),
+                (0, True, 2),
                 (False, 1, 2), None, True, False, 0, 2, "012", ((0, 1, 2),), [0, 1, 2], deep(80), deep(80, (0, 1, 2)),
             ):
                 self.assertIs(is_stop(fabric, state, c, value), False, (c, value))
@@ -386,12 +388,18 @@ class StopTest(unittest.TestCase):
             (), right[:1], right[1:], right[::-1], right + right[:1], right + (("go", 0, 1),), right + (("go", 1, 2),),
             (("out", 1), ("go", 1, 2), ("go", 0, 1), ("go", 0, 1)), (("out", 1), ("go", 0, 1), ("go", 1, 2)),
             (("out", 1), ("put", 2, 0, 2), ("go", 0, 1)), (("put", 2, 0, 2),) + right, right + (("put", 0, 1, 0),),
-            (("out", 1), ("out", 0)), (("out", 1), ("go", 0, 2)), (("out", 1), ("out", 1), ("go", 0, 1)), (("out", 2),) + right,
-            (("out", 1), ("go", 0, True)), (("out", 1), ("go", False, 1)), (("out", True), ("go", 0, 1)), (("out", 1, 0), ("go", 0, 1)),
-            (("out", 1), ("go", 0)), (("out", 1), ("go", 0, 1, 2)), (("out", 1), ("Go", 0, 1)), (("out",), ("go", 0, 1)), ("out", 1),
-            (("out", 1), ()), ((), ("go", 0, 1)), (("out", 1), "go"), list(right), "go", None, True, False, 0, 1, deep(80),
-            deep(80, right), (right,), (("out", 1), ["go", 0, 1]), (("out", -2), ("go", 0, 1)), (("out", 10 ** 3000), ("go", 0, 1)),
-            (("out", 1), ("go", 0, 10 ** 3000)), (("out", deep(78)), ("go", 0, 1)), (("out", 1), ("go", 0, "1")), (("go", 1, 2), ("go", 0, 1)),
+            (("out", 1), ("out", 0)), (("out", 1), ("go", 0, 2)), (("out", 1), ("out", 1), ("go", 0, 1)),
+            (("out", 2),) + right,
+            (("out", 1), ("go", 0, True)), (("out", 1), ("go", False, 1)), (("out", True), ("go", 0, 1)),
+            (("out", 1, 0), ("go", 0, 1)),
+            (("out", 1), ("go", 0)), (("out", 1), ("go", 0, 1, 2)), (("out", 1), ("Go", 0, 1)),
+            (("out",), ("go", 0, 1)), ("out", 1),
+            (("out", 1), ()), ((), ("go", 0, 1)), (("out", 1), "go"), list(right), "go", None, True, False, 0, 1,
+            deep(80),
+            deep(80, right), (right,), (("out", 1), ["go", 0, 1]), (("out", -2), ("go", 0, 1)),
+            (("out", 10 ** 3000), ("go", 0, 1)),
+            (("out", 1), ("go", 0, 10 ** 3000)), (("out", deep(78)), ("go", 0, 1)), (("out", 1), ("go", 0, "1")),
+            (("go", 1, 2), ("go", 0, 1)),
         ):
             self.assertIs(is_way_out(fabric, state, 0, value), False, value)
         for wrong in WRONG_KINDS + WRONG_INTEGERS:

@@ -87,7 +87,8 @@ class IsCaseTest(unittest.TestCase):
 
     def test_another_network(self):
         for network in (
-            (4, NETWORK[1]), (2, NETWORK[1]), (3, NETWORK[1][:4]), (3, NETWORK[1][::-1]), (3, ()), (3,), (True, NETWORK[1]), None,
+            (4, NETWORK[1]), (2, NETWORK[1]), (3, NETWORK[1][:4]), (3, NETWORK[1][::-1]), (3, ()), (3,),
+            (True, NETWORK[1]), None,
             put_at(NETWORK, (1, 0), (2, 1, 1)), put_at(NETWORK, (1, 0, 2), 0), put_at(NETWORK, (1, 0, 2), 1001), RING3[0],
         ):
             self.assertIs(is_case((network, TABLE, ONWARD)), False, network)
@@ -98,7 +99,8 @@ class IsCaseTest(unittest.TestCase):
     def test_other_lengths(self):
         for value in (
             (), (NETWORK,), (NETWORK, TABLE), (NETWORK, TABLE, ONWARD, ONWARD), (CASE,), (TABLE, NETWORK, ONWARD),
-            (NETWORK, TABLE[:2], ONWARD), (NETWORK, TABLE, ONWARD[:2]), (NETWORK, TABLE, ONWARD + ((),)), (NETWORK, TABLE, ()),
+            (NETWORK, TABLE[:2], ONWARD), (NETWORK, TABLE, ONWARD[:2]), (NETWORK, TABLE, ONWARD + ((),)),
+            (NETWORK, TABLE, ()),
             (NETWORK, TABLE, put_at(ONWARD, (1,), ONWARD[1][:2])), (NETWORK, TABLE, put_at(ONWARD, (0, 0), (0,))),
             (NETWORK, TABLE, put_at(ONWARD, (1, 2), (3, 3))), (NETWORK, put_at(TABLE, (1, 2), (3, 1)), ONWARD),
             (NETWORK, put_at(TABLE, (1, 2), (3, 5)), ONWARD), list(CASE), (NETWORK, list(TABLE), ONWARD),

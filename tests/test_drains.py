@@ -48,7 +48,8 @@ class KnotScriptTest(unittest.TestCase):
         network = (3, ((0, 1, 2), (1, 2, 1), (2, 0, 3)))
         script = (("put", 0, 2, 0),) * 2 + (("put", 1, 0, 1),) + (("put", 2, 1, 2),) * 3
         self.assertEqual(knot_script(network, ((0, 2), (1, 0), (2, 1))), script)
-        self.assertEqual(knot_script(RING3[0], ((0, 2), (1, 0), (2, 1))), (("put", 0, 2, 0), ("put", 1, 0, 1), ("put", 2, 1, 2)))
+        script = (("put", 0, 2, 0), ("put", 1, 0, 1), ("put", 2, 1, 2))
+        self.assertEqual(knot_script(RING3[0], ((0, 2), (1, 0), (2, 1))), script)
 
     def check(self, fabric, knot):
         channels = fabric[0][1]
@@ -111,7 +112,8 @@ class DrainTest(unittest.TestCase):
     def test_by_hand(self):
         # 0 -> 1 -> 2 -> 3, all to 3; the channel in front is emptied first.
         state = (5, (((4, 3),), ((0, 3),), ((2, 3),)))
-        self.assertEqual(drain(CHAIN4, state, (2, 1, 0)), (("out", 2), ("go", 1, 2), ("out", 2), ("go", 0, 1), ("go", 1, 2), ("out", 2)))
+        script = (("out", 2), ("go", 1, 2), ("out", 2), ("go", 0, 1), ("go", 1, 2), ("out", 2))
+        self.assertEqual(drain(CHAIN4, state, (2, 1, 0)), script)
         # Of several channels with the least rank the first one.
         state = (4, (((2, 1), (0, 1)), ((3, 0),)))
         self.assertEqual(drain(PAIR, state, (0, 0)), (("out", 0), ("out", 0), ("out", 1)))
@@ -122,7 +124,9 @@ class DrainTest(unittest.TestCase):
         table = (((), (), (), (0,)), ((), (), (), (1, 2, 3)), ((), (), (), (4,)), ((), (), (), ()))
         fabric = (network, table)
         state = (1, (((0, 3),), (), (), (), ()))
-        for ranks, option in (((2, 1, 1, 1, 0), 1), ((3, 5, 1, 2, 0), 2), ((3, 5, 2, 1, 0), 2), ((3, 3, 4, 1, 0), 3), ((9, 8, 1, 1, 0), 1)):
+        for ranks, option in (
+            ((2, 1, 1, 1, 0), 1), ((3, 5, 1, 2, 0), 2), ((3, 5, 2, 1, 0), 2), ((3, 3, 4, 1, 0), 3), ((9, 8, 1, 1, 0), 1),
+        ):
             self.assertEqual(drain(fabric, state, ranks), (("go", 0, option), ("go", option, 4), ("out", 4)))
 
     def test_with_the_least_ranks_and_with_greater_ones(self):

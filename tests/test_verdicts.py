@@ -166,7 +166,8 @@ class RanksTest(unittest.TestCase):
         case = case_of((RING3[0], table_of(3, {(0, 1): (0,), (0, 2): (0,), (1, 2): (1,)})))
         self.assertEqual(least_ranks(case), (1, 0, 0))
         for value, right in (
-            ((1, 0, 0), True), ((9, 0, 0), True), ((9, 8, 0), True), ((1, 1, 0), False), ((1, 2, 0), False), ((0, 0, 0), False),
+            ((1, 0, 0), True), ((9, 0, 0), True), ((9, 8, 0), True), ((1, 1, 0), False), ((1, 2, 0), False),
+            ((0, 0, 0), False),
             ((1, 0, 10 ** 3000), True), ((10 ** 3000, 10 ** 3000 - 1, 0), True), ((10 ** 3000, 10 ** 3000, 0), False),
         ):
             self.assertIs(is_ranks(case, value), right, value)
@@ -177,7 +178,7 @@ class RanksTest(unittest.TestCase):
             ranks = tuple(rank + 1 for rank in least_ranks(case)) if least_ranks(case) else (0,) * many
             right = least_ranks(case) is not None
             self.assertIs(is_ranks(case, ranks), right)
-            for value in (ranks[:-1], ranks + (0,), ranks[1:], (), (ranks,), ranks + ((),), list(ranks), ranks[0], deep(80, ranks)):
+            for value in (ranks[:-1], ranks + (0,), ranks[1:], (), (ranks,), ranks + ((),), list(ranks), 0, deep(80, ranks)):
                 self.assertIs(is_ranks(case, value), False)
             for wrong in WRONG_KINDS + (-1, -2, -10 ** 3000):
                 self.assertIs(is_ranks(case, wrong), False)
@@ -253,8 +254,8 @@ class KnotTest(unittest.TestCase):
             self.assertIs(is_knot(case, value), value == knot)
         self.assertIs(is_knot(case, ((0, 2), (1, 0), (2, 1), (2, 1))), False)
         self.assertIs(is_knot(case, list(knot)), False)
-        for value in (((0, 2), (True, 0), (2, 1)), ((False, 2), (1, 0), (2, 1)), ((0, 2), (1, False), (2, 1)), ((0, 2), (1, 0), (2, True))):
-            self.assertIs(is_knot(case, value), False)
+        for path, wrong in (((1, 0), True), ((0, 0), False), ((1, 1), False), ((2, 1), True)):
+            self.assertIs(is_knot(case, put_at(knot, path, wrong)), False)
 
     def test_other_values(self):
         for case in (case_of(RING3), case_of(MIXED), case_of(TWO_KNOTS)):

@@ -2,7 +2,7 @@ import itertools
 import random
 import unittest
 
-from samples import CHAIN4, DOUBLE, PAIR, RING3, WRONG_INTEGERS, WRONG_KINDS, deep, greatest, put_at
+from samples import CHAIN4, DOUBLE, PAIR, RING3, WRONG_INTEGERS, WRONG_KINDS, deep, greatest, put_at, table_of
 from worm_samples import LONG, ROW, SEVERAL, drawn_states, drawn_worms, plain_is_worm, plain_ways
 
 from calmfabric.networks import placements
@@ -151,13 +151,16 @@ class WormTest(unittest.TestCase):
         self.assertIs(is_worm(LONG, (4, 5, 7, (0, 5, 3), (2, 1, 1), 0)), True)
         for way, flits in (
             ((), ()), ((0, 1, 2), (2, 0, 3, 1)), ((0, 1, 2, 3, 4), (2, 0, 3, 1)), ((0, 1, 1, 3), (2, 0, 0, 1)),
-            ((0, 1, 2, 0), (2, 0, 3, 1)), ((0, 2, 3), (2, 3, 1)), ((1, 0), (1, 1)), ((0, 3), (1, 1)), ((0, 5, 2), (1, 1, 1)),
-            ((5, 1), (1, 1)), ((3, 2), (1, 1)), ((-1,), (1,)), ((6,), (1,)), ((0, -5), (1, 1)), ((10 ** 3000,), (1,)), ((True,), (1,)),
-            ((False, 1), (1, 1)), ((0, True), (1, 1)), ((None,), (1,)), (("0",), (1,)), (((0,),), (1,)), (0, 1), ([0, 1], (1, 1)),
+            ((0, 1, 2, 0), (2, 0, 3, 1)), ((0, 2, 3), (2, 3, 1)), ((1, 0), (1, 1)), ((0, 3), (1, 1)),
+            ((0, 5, 2), (1, 1, 1)),
+            ((5, 1), (1, 1)), ((3, 2), (1, 1)), ((-1,), (1,)), ((6,), (1,)), ((0, -5), (1, 1)), ((10 ** 3000,), (1,)),
+            ((True,), (1,)),
+            ((False, 1), (1, 1)), ((0, True), (1, 1)), ((None,), (1,)), (("0",), (1,)), (((0,),), (1,)), (0, 1),
+            ([0, 1], (1, 1)),
         ):
             self.assertIs(is_worm(LONG, (4, 5, 7, way, flits, 0)), False, way)
         # In a ring a worm can come to a channel that it holds; it can't hold it twice.
-        ring = ((4, ((0, 1, 1), (1, 0, 1), (1, 2, 1))), (((), (), (), (0,)), ((), (), (), (1,)), ((), (), (), ()), ((), (), (), ())))
+        ring = ((4, ((0, 1, 1), (1, 0, 1), (1, 2, 1))), table_of(4, {(0, 3): (0,), (1, 3): (1,)}))
         self.assertIs(is_worm(ring, (0, 3, 0, (0, 1), (1, 1), 0)), True)
         self.assertIs(is_worm(ring, (0, 3, 0, (1, 0), (1, 1), 0)), True)
         self.assertIs(is_worm(ring, (0, 3, 0, (0, 1, 0), (1, 1, 1), 0)), False)
@@ -182,8 +185,8 @@ class WormTest(unittest.TestCase):
         self.assertIs(is_worm(LONG, (9, 5, 0, (2, 3, 4), (1, 0, 0), 0)), False)
 
     def test_lengths(self):
-        for left, right in ((MAX_FLITS - 6, True), (MAX_FLITS - 5, False), (MAX_FLITS, False), (10 ** 3000, False), (-1, False)):
-            self.assertIs(is_worm(LONG, put_at(UNDER_WAY, (2,), left)), right)
+        for left in (MAX_FLITS - 6, MAX_FLITS - 5, MAX_FLITS, 10 ** 3000, -1, 0):
+            self.assertIs(is_worm(LONG, put_at(UNDER_WAY, (2,), left)), left in (0, MAX_FLITS - 6))
         for home, right in ((MAX_FLITS - 3, True), (MAX_FLITS - 2, False), (-1, False), (10 ** 3000, False)):
             self.assertIs(is_worm(LONG, put_at(AT_GOAL, (5,), home)), right)
         self.assertIs(is_worm(ROW, (0, 2, 0, (0,), (1,), 0)), True)
@@ -205,8 +208,11 @@ class WormTest(unittest.TestCase):
         # True for a number that would be right.
         worm = (1, 2, 1, (0, 1), (1, 1), 0)
         self.assertIs(is_worm(ROW, worm), True)
-        for path, other in (((0,), True), ((2,), True), ((3, 0), False), ((3, 1), True), ((4, 0), True), ((4, 1), True), ((5,), False)):
-            self.assertIs(is_worm(ROW, put_at(worm, path, other)), False, path)
+        for path in ((0,), (2,), (3, 0), (3, 1), (4, 0), (4, 1), (5,)):
+            part = worm
+            for k in path:
+                part = part[k]
+            self.assertIs(is_worm(ROW, put_at(worm, path, bool(part))), False, path)
         self.assertIs(is_worm(PAIR, (0, True, 0, (0,), (1,), 0)), False)
 
 
@@ -250,8 +256,10 @@ class StateTest(unittest.TestCase):
     def test_other_kinds_and_lengths(self):
         count, worms = self.STATE
         for value in (
-            (), (count,), (count, worms, ()), (worms, count), (count, worms[0]), (count, list(worms)), (count, worms + ((),)),
-            (count, ((),)), (count, worms + (None,)), (count, None), (count, 0), ((count, worms),), [count, worms], deep(80, self.STATE),
+            (), (count,), (count, worms, ()), (worms, count), (count, worms[0]), (count, list(worms)),
+            (count, worms + ((),)),
+            (count, ((),)), (count, worms + (None,)), (count, None), (count, 0), ((count, worms),), [count, worms],
+            deep(80, self.STATE),
             (count, deep(78)), (count, deep(79, worms)), (count, (deep(78, worms[0]),)), {0: 1},
         ):
             self.assertIs(is_worm_state(LONG, value), False, value)
@@ -280,7 +288,8 @@ class StepTest(unittest.TestCase):
                 self.assertIs(is_worm_step((word,) + (1,) * many), False)
 
     def test_other_values(self):
-        for value in WRONG_KINDS + WRONG_INTEGERS + ((), ("take",), (("take", 1),), ["take", 1], "take", deep(80, ("take", 1)), (1, "take")):
+        more = ((), ("take",), (("take", 1),), ["take", 1], "take", deep(80, ("take", 1)), (1, "take"))
+        for value in WRONG_KINDS + WRONG_INTEGERS + more:
             self.assertIs(is_worm_step(value), False)
 
     def test_scripts(self):

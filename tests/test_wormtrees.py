@@ -167,9 +167,12 @@ class TreeTest(unittest.TestCase):
     def test_closed(self):
         # In LONG nobody waits in channel 4; then not in 3, and so on.
         for order, right in (
-            ((4, 3, 2, 1, 5, 0), True), ((4, 3, 2, 5, 1, 0), True), ((4, 3, 5, 2, 1, 0), True), ((4, 3, 2, 1, 5), False),
-            ((4, 3, 0, 2, 1, 5), False), ((4, 3, 2, 1, 0, 5), True), ((3, 4, 2, 1, 5, 0), False), ((4, 3, 2, 1, 5, 0, 0), True), ((4, 4, 3, 3, 2, 1, 5, 4, 0), True),
-            ((4, 3, 2, 1, 5, 0, 6), False), ((4, 3, 2, 1, 5, -6), False), ((), False), ((0, 1, 2, 3, 4, 5), False), ((4,), False),
+            ((4, 3, 2, 1, 5, 0), True), ((4, 3, 2, 5, 1, 0), True), ((4, 3, 5, 2, 1, 0), True),
+            ((4, 3, 2, 1, 5), False),
+            ((4, 3, 0, 2, 1, 5), False), ((4, 3, 2, 1, 0, 5), True), ((3, 4, 2, 1, 5, 0), False),
+            ((4, 3, 2, 1, 5, 0, 0), True), ((4, 4, 3, 3, 2, 1, 5, 4, 0), True),
+            ((4, 3, 2, 1, 5, 0, 6), False), ((4, 3, 2, 1, 5, -6), False), ((), False), ((0, 1, 2, 3, 4, 5), False),
+            ((4,), False),
         ):
             self.assertIs(is_search_tree(LONG, MAX_FLITS, (), (), ("closed", order)), right, order)
         self.assertIs(is_search_tree(LONG, MAX_FLITS, (), (3, 4), ("closed", (2, 1, 5, 0))), True)
@@ -197,11 +200,14 @@ class TreeTest(unittest.TestCase):
         end = ("closed", (1,))
         for value, right in (
             (("split", (), 0, (end, end)), True), (("split", (), 0, (("closed", (1, 1)), end)), True),
-            (("split", (1,), 0, (("closed", ()), ("closed", ()))), False), (("split", (1,), 0, (("closed", ()),)), True),
+            (("split", (1,), 0, (("closed", ()), ("closed", ()))), False),
+            (("split", (1,), 0, (("closed", ()),)), True),
             (("split", (1, 0), 0, (end, end)), False),
-            (("split", (), 0, (end,)), False), (("split", (), 0, (end, end, end)), False), (("split", (), 0, ()), False),
+            (("split", (), 0, (end,)), False), (("split", (), 0, (end, end, end)), False),
+            (("split", (), 0, ()), False),
             (("split", (), 1, (end, end)), False), (("split", (), 1, (("closed", (0,)),)), True),
-            (("split", (), 1, (("closed", ()),)), False), (("split", (), 2, (end, end)), False), (("split", (), -2, (end, end)), False),
+            (("split", (), 1, (("closed", ()),)), False), (("split", (), 2, (end, end)), False),
+            (("split", (), -2, (end, end)), False),
             (("split", (), True, (("closed", (0,)),)), False), (("split", (), False, (end, end)), False),
             (("split", (), 0, (("closed", ()), end)), False), (("split", (), 0, (end, ("closed", ()))), False),
             (("split", (0,), 0, (end, end)), False), (("split", (1,), 1, (("closed", ()), ("closed", ()))), False),
@@ -215,7 +221,8 @@ class TreeTest(unittest.TestCase):
         # If there are chosen ways, it is an option of one of them, and there is no tree with it barred.
         chosen = ((2, (0,)),)
         for value, right in (
-            (("split", (), 1, ()), True), (("split", (), 1, (end,)), False), (("split", (), 0, ()), False), (("split", (1,), 1, ()), False),
+            (("split", (), 1, ()), True), (("split", (), 1, (end,)), False), (("split", (), 0, ()), False),
+            (("split", (1,), 1, ()), False),
             (end, True), (("closed", ()), False),
         ):
             self.assertIs(is_search_tree(fabric, longest, chosen, (), value), right, value)
@@ -241,7 +248,8 @@ class TreeTest(unittest.TestCase):
     def test_other_words_and_kinds(self):
         tree = tree_of(RANKED[1], 3)
         self.assertEqual(tree[0], "split")
-        for wrong in WRONG_KINDS + WRONG_INTEGERS + ((), ("closed",), ("split",), ("closed", (), ()), ("split", (), 0), "closed", "split"):
+        more = ((), ("closed",), ("split",), ("closed", (), ()), ("split", (), 0), "closed", "split")
+        for wrong in WRONG_KINDS + WRONG_INTEGERS + more:
             self.assertIs(is_search_tree(RANKED[1], 3, (), (), wrong), False)
             self.assertIs(is_search_tree(RANKED[1], 3, (), (), ("closed", wrong)), False)
             for path in paths_of(tree):
