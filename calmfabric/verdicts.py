@@ -26,8 +26,9 @@ def cells_of(case):
     for c, d in case_placements(case):
         v = channels[c][1]
         if v != d:
-            waiting.setdefault((v, d), []).append(c)
-    return [(waiting[v, d], onward[v][d]) for v, d in waiting]
+            waiting.setdefault(onward[v][d], []).append(c)
+    # A channel may be told for several goals, but waits once.
+    return [(sorted(set(waiting[cell])), cell) for cell in waiting]
 
 
 def knot_on(case, left):
