@@ -8,8 +8,8 @@ import unittest
 from samples import DOUBLE, FABRICS, PAIR, deep, greatest, random_network, random_table, ring
 
 from calmfabric import (
-    blocked, cases, distances, drains, errors, frames, known_ranks, networks, packets, rounds, routings, tables, texts,
-    verdicts, ways, wormplay, worms, wormtrees, wormways,
+    blocked, cases, changeovers, changes, checker, distances, drains, edits, errors, failures, frames, known_ranks, networks,
+    packets, rounds, routings, sessions, tables, texts, verdicts, ways, wording, wormknots, wormplay, worms, wormtrees, wormways,
 )
 
 ROOT = os.path.dirname(os.path.dirname(os.path.abspath(__file__)))
@@ -91,14 +91,43 @@ INTERFACE = {
     "calmfabric.wormtrees": {
         "worm_verdict": ("fabric", "longest"), "is_search_tree": ("fabric", "longest", "chosen", "barred", "value"),
     },
+    "calmfabric.wormknots": {
+        "is_worm_knot": ("fabric", "longest", "value"), "worm_knot_script": ("network", "knot"),
+        "find_worm_knot": ("fabric", "longest"), "critical_length": ("fabric",),
+    },
+    "calmfabric.changeovers": {
+        "is_changeover": ("value",), "change_case": ("change",), "change_start": ("change",),
+        "is_change_state": ("change", "value"), "can_change": ("change", "state", "step"),
+        "changed_by": ("change", "state", "step"), "play_change": ("change", "state", "script"), "caught": ("change", "state"),
+        "home_script": ("change", "state", "ranks"), "jam_script": ("change", "knot"),
+    },
+    "calmfabric.failures": {
+        "after_failure": ("fabric", "state", "channels"), "cut_off": ("fabric", "channels"), "least_break": ("fabric", "k"),
+        "least_cut": ("fabric", "k"),
+    },
+    "calmfabric.edits": {
+        "are_edits": ("network", "value"), "subsets": ("count",), "edited": ("table", "edits", "subset"),
+    },
+    "calmfabric.changes": {
+        "reason_against": ("network", "table"), "is_reason": ("network", "table", "value"), "least_change": ("fabric", "edits"),
+        "is_answer": ("fabric", "edits", "value"), "needed_changes": ("fabric", "edits"),
+    },
+    "calmfabric.checker": {"is_sound": ("statement",), "check": ("statement", "certificate")},
+    "calmfabric.wording": {
+        "print_step": ("step",), "print_script": ("script",), "print_knot": ("knot",), "print_worm_knot": ("knot",),
+        "read_step": ("text",), "read_script": ("text",),
+    },
 }
+# The methods of the class, with their arguments behind self.
+METHODS = {"enter": ("line",), "fabric": (), "state": (), "journal": ()}
 CONSTANTS = {
     "calmfabric.networks": {"MAX_NODES": 64, "MAX_CHANNELS": 400, "MAX_ROOM": 1000},
     "calmfabric.frames": {"MAX_LANES": 8},
     "calmfabric.worms": {"MAX_FLITS": 1000000},
+    "calmfabric.edits": {"MAX_EDITS": 10},
 }
 # These answer True or False, like those whose names begin with "is_".
-ANSWERS = ("are_ranks", "are_heights", "arrives")
+ANSWERS = ("are_ranks", "are_heights", "arrives", "can_change", "are_edits", "check")
 ERRORS = ("FabricError", "BadText", "NotPossible", "NotAllowed", "NoAnswer")
 
 
@@ -123,6 +152,9 @@ def calls_of(fabric):
     yield from way_calls_of(fabric)
     yield from worm_calls_of(fabric)
     yield from worm_way_calls_of(fabric)
+    yield from change_calls_of(fabric)
+    yield from failure_calls_of(fabric)
+    yield from check_calls_of(fabric)
     yield from KNOWN_CALLS
 
 
@@ -247,6 +279,69 @@ def worm_way_calls_of(fabric):
     yield wormways.is_idle, (fabric, 2, (), (), 0)
     yield wormtrees.worm_verdict, (fabric, 2)
     yield wormtrees.is_search_tree, (fabric, 2, (), (), ("closed", (0,)))
+    knot = wormknots.find_worm_knot(fabric, 2)
+    yield wormknots.is_worm_knot, (fabric, 2, knot)
+    yield wormknots.worm_knot_script, (fabric[0], knot or ())
+    yield wormknots.find_worm_knot, (fabric, 2)
+    yield wormknots.critical_length, (fabric,)
+
+
+def change_calls_of(fabric):
+    """Each function of changeovers, from a table with some options less, in some state."""
+    network, table = fabric
+    change = (network, tables.without_channels(fabric, (0,))[1], table)
+    case = changeovers.change_case(change)
+    word, told = verdicts.verdict(case)
+    start = changeovers.change_start(change)
+    state = changeovers.play_change(change, start, (("switch", 1),))
+    yield changeovers.is_changeover, (change,)
+    yield changeovers.change_case, (change,)
+    yield changeovers.change_start, (change,)
+    yield changeovers.is_change_state, (change, state)
+    yield changeovers.can_change, (change, state, ("go", 0, 1))
+    yield changeovers.changed_by, (change, state, ("switch", 0))
+    yield changeovers.play_change, (change, start, (("switch", 1), ("switch", 0)))
+    yield changeovers.caught, (change, ((0,), full_state(fabric)))
+    yield changeovers.home_script, (change, state, told if word == "ranks" else (0,) * len(network[1]))
+    yield changeovers.jam_script, (change, told if word == "knot" else ())
+
+
+def failure_calls_of(fabric):
+    """Each function of failures, edits and least changes."""
+    network, table = fabric
+    pairs = networks.placements(fabric)[:2]
+    some = tuple(("drop", network[1][c][0], d, c) for c, d in pairs)
+    reason = changes.reason_against(network, table)
+    yield failures.after_failure, (fabric, full_state(fabric), (0,))
+    yield failures.cut_off, (fabric, (0,))
+    yield failures.least_break, (fabric, 1)
+    yield failures.least_cut, (fabric, 1)
+    yield edits.are_edits, (network, some)
+    yield edits.subsets, (3,)
+    yield edits.edited, (table, some, tuple(range(len(some))))
+    yield changes.reason_against, (network, table)
+    yield changes.is_reason, (network, table, reason)
+    yield changes.least_change, (fabric, some)
+    yield changes.is_answer, (fabric, some, changes.least_change(fabric, some))
+    yield changes.needed_changes, (fabric, some)
+
+
+def check_calls_of(fabric):
+    """Each function of the checker and of the texts."""
+    word, told = verdicts.verdict(cases.case_of(fabric))
+    statement = ("calm" if word == "ranks" else "jams",) + fabric
+    yield checker.is_sound, (statement,)
+    yield checker.check, (statement, told)
+    word, told = wormtrees.worm_verdict(fabric, 2)
+    yield checker.check, (("worms calm" if word == "tree" else "worms jam",) + fabric + (2,), told)
+    yield checker.check, (("least",) + fabric + ((),), changes.least_change(fabric, ()))
+    yield checker.check, (("firm",) + fabric + (1,), (((0,), (0,)),))
+    yield wording.print_step, (("go", 0, 1),)
+    yield wording.print_script, ((("go", 0, 1), ("out", 1)),)
+    yield wording.print_knot, (((0, 1), (2, 3)),)
+    yield wording.print_worm_knot, (((0, (1, 2)), (2, (3,))),)
+    yield wording.read_step, ("put 0 1 2",)
+    yield wording.read_script, ("put 0 1 2; out 2",)
 
 
 MESH = frames.network_of(frames.mesh((2, 3)), 2, 4)
@@ -323,6 +418,13 @@ class InterfaceTest(unittest.TestCase):
         for name in ERRORS:
             self.assertEqual(getattr(errors, name).__module__, "calmfabric.errors")
 
+    def test_the_class_has_its_methods_itself(self):
+        self.assertEqual(sessions.Session.__module__, "calmfabric.sessions")
+        self.assertEqual(tuple(inspect.signature(sessions.Session).parameters), ("fabric",))
+        for name, arguments in METHODS.items():
+            method = vars(sessions.Session)[name]
+            self.assertEqual(tuple(inspect.signature(method).parameters), ("self",) + arguments)
+
     def test_all_functions_of_the_interface_are_called_here(self):
         called = {(function.__module__, function.__name__) for function, _ in calls_of(PAIR)}
         self.assertEqual(called, {(module, name) for module, functions in INTERFACE.items() for name in functions})
@@ -383,6 +485,9 @@ class DataTest(unittest.TestCase):
             self.assertIs(packets.is_step(value), False)
             self.assertIs(cases.is_case(value), False)
             self.assertIs(worms.is_worm_step(value), False)
+            self.assertIs(changeovers.is_changeover(value), False)
+            self.assertIs(checker.is_sound(value), False)
+            self.assertIs(checker.check(value, value), False)
             for fabric in FABRICS:
                 self.assertIs(networks.is_table(fabric[0], value), False)
                 self.assertIs(packets.is_state(fabric, value), False)
@@ -399,6 +504,15 @@ class DataTest(unittest.TestCase):
                 self.assertIs(worms.is_worm_state(fabric, value), False)
                 self.assertIs(wormways.is_way(fabric, 1, value), False)
                 self.assertIs(wormtrees.is_search_tree(fabric, 2, (), (), value), False)
+                self.assertIs(wormknots.is_worm_knot(fabric, 2, value), False)
+                self.assertIs(changeovers.is_change_state(fabric + fabric[1:], value), False)
+                self.assertIs(edits.are_edits(fabric[0], value), False)
+                self.assertIs(changes.is_reason(*fabric, value), False)
+                self.assertIs(changes.is_answer(fabric, (), value), False)
+                for word in ("jams", "firm", "weak", "blocked", "least", "worms calm", "worms jam", "change jams"):
+                    self.assertIs(checker.check((word,) + fabric, value), False)
+                    self.assertIs(checker.check((word,) + fabric + (1,), value), False)
+                    self.assertIs(checker.check((word,) + fabric + fabric[1:], value), False)
 
 
 class ExamplesTest(unittest.TestCase):

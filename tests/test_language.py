@@ -13,6 +13,14 @@ LIBRARY = {
     "collections": ("defaultdict",),
 }
 
+# The files of each part of the document; first those that belong to none.
+PARTS = (
+    ("__init__", "values", "errors"), ("networks", "tables", "texts"), ("frames", "distances"), ("routings", "known_ranks"),
+    ("packets",), ("blocked",), ("cases", "verdicts", "drains"), ("ways", "rounds"), ("worms", "wormplay"),
+    ("wormways", "wormtrees", "wormknots"), ("changeovers", "failures"), ("edits", "changes"),
+    ("checking", "worm_checking", "checker"), ("wording", "sessions"),
+)
+
 BUILTINS = (
     "len range enumerate zip min max sum abs sorted reversed int str bool bytes list tuple dict set frozenset isinstance "
     "ord repr any all divmod pow getattr hasattr setattr Exception ValueError TypeError KeyError IndexError LookupError "
@@ -24,6 +32,8 @@ METHODS = (
     "join keys ljust lower lstrip partition pop remove replace reverse rfind rjust rpartition rsplit rstrip setdefault split "
     "splitlines startswith strip update upper values zfill bit_length isdecimal sort add discard __init__"
 ).split()
+# Those of the package itself, called off their own object.
+OWN_METHODS = ("fabric", "state", "change_to", "take_back")
 NOWHERE = ("register", "mro", "elements", "open", "input", "law", "version_info", "with_traceback", "add_note", "exit", "id")
 
 
@@ -100,7 +110,8 @@ class LanguageTest(unittest.TestCase):
                 if isinstance(node, ast.Name) and isinstance(node.ctx, ast.Load) and hasattr(builtins, node.id):
                     self.assertIn(node.id, BUILTINS, (name, node.lineno))
                 if isinstance(node, ast.Call) and isinstance(node.func, ast.Attribute):
-                    self.assertIn(node.func.attr, METHODS, (name, node.lineno))
+                    own = getattr(node.func.value, "id", None) == "self" and node.func.attr in OWN_METHODS
+                    self.assertTrue(own or node.func.attr in METHODS, (name, node.lineno))
 
     def test_names_mean_one_thing(self):
         for name, data in sources().items():
@@ -132,6 +143,24 @@ class LanguageTest(unittest.TestCase):
             self.assertNotEqual(ends, [], sorted(left))
             for name in ends:
                 del left[name]
+
+    def test_the_checker_uses_no_other_part(self):
+        own = ("calmfabric.checking", "calmfabric.worm_checking")
+        for name, data in sources().items():
+            modules = {node.module for node in ast.walk(ast.parse(data)) if isinstance(node, ast.ImportFrom)}
+            if name in ("checker.py", "checking.py", "worm_checking.py"):
+                self.assertLessEqual(modules, set(own), name)
+            else:
+                self.assertEqual(modules & set(own), set(), name)
+
+    def test_parts_use_only_the_parts_before_them(self):
+        # values.py is what the modules share; the files of the checker are looked at above.
+        parts = {name: k for k, names in enumerate(PARTS) for name in names}
+        self.assertEqual(sorted(parts), sorted(name[:-3] for name in sources()))
+        for name, data in sources().items():
+            for node in ast.walk(ast.parse(data)):
+                if isinstance(node, ast.ImportFrom) and node.module not in LIBRARY:
+                    self.assertLessEqual(parts[node.module.partition(".")[2]], parts[name[:-3]], (name, node.module))
 
     def test_no_floats_and_no_division(self):
         for name, data in sources().items():
