@@ -1,7 +1,7 @@
 """The checker of statements and their certificates, for somebody who trusts no other part of the program."""
 
 from calmfabric.checking import (
-    edited_table, has_ends, has_length, is_case, is_end, is_integer, is_knot, is_network, is_ranks, is_rising, is_state,
+    edited_table, has_ends, has_length, is_between, is_case, is_end, is_knot, is_network, is_ranks, is_rising, is_state,
     is_stop, is_table, is_way_out, table_without, union_of,
 )
 from calmfabric.worm_checking import is_search_tree, is_worm_knot
@@ -23,12 +23,12 @@ def is_about_channel(parts):
     if len(parts) != 4 or not is_fabric(parts[:2]):
         return False
     network, table, state, c = parts
-    return is_state(network, table, state) and is_integer(c, 0, len(network[1]) - 1) and len(state[1][c]) > 0
+    return is_state(network, table, state) and is_between(c, 0, len(network[1]) - 1) and len(state[1][c]) > 0
 
 
 def is_about_worms(parts):
     """Tell whether parts are a fabric and a greatest length of worms."""
-    return len(parts) == 3 and is_fabric(parts[:2]) and is_integer(parts[2], 1, MAX_FLITS)
+    return len(parts) == 3 and is_fabric(parts[:2]) and is_between(parts[2], 1, MAX_FLITS)
 
 
 def is_about_change(parts):
@@ -41,7 +41,7 @@ def is_about_change(parts):
 
 def is_about_failures(parts):
     """Tell whether parts are a fabric and a number of channels."""
-    return len(parts) == 3 and is_fabric(parts[:2]) and is_integer(parts[2], 1, len(parts[0][1]))
+    return len(parts) == 3 and is_fabric(parts[:2]) and is_between(parts[2], 1, len(parts[0][1]))
 
 
 def is_about_edits(parts):
@@ -60,7 +60,7 @@ def is_edit(network, value):
     if not has_length(value, 4) or value[0] not in ("add", "drop"):
         return False
     _, u, d, c = value
-    if not is_integer(u, 0, n - 1) or not is_integer(d, 0, n - 1) or not is_integer(c, 0, len(channels) - 1):
+    if not is_between(u, 0, n - 1) or not is_between(d, 0, n - 1) or not is_between(c, 0, len(channels) - 1):
         return False
     return u != d and channels[c][0] == u
 
@@ -122,7 +122,7 @@ def shows_firm(parts, certificate):
     # There may be far more sets than rows, so they are not listed first.
     failed = set_behind(many, k, ())
     for row in certificate:
-        if failed is None or not has_length(row, 2) or not is_rising(row[0], many) or row[0] != failed:
+        if not has_length(row, 2) or not is_rising(row[0], many) or row[0] != failed:
             return False
         if not is_ranks(failure_case(network, table, failed), row[1]):
             return False
@@ -172,7 +172,8 @@ def shows_least(parts, certificate):
         return False
     some = ()
     for reason in reasons:
-        if some is None or some == subset or not is_reason(network, edited_table(table, edits, some), reason):
+        # Behind the last subset there is None, where nothing is to be told, either.
+        if some == subset or not is_reason(network, edited_table(table, edits, some), reason):
             return False
         some = set_behind(many, many, some)
     if subset is None:
@@ -193,13 +194,11 @@ def is_reason(network, table, value):
 
 def is_told_end(network, table, value):
     """Tell whether any value is a dead end (u, d, c) of a table."""
-    n, channels = network
-    if not has_length(value, 3) or not all([is_integer(k, 0, None) for k in value]):
+    n = network[0]
+    if not has_length(value, 3) or not all([is_between(k, 0, None) for k in value]):
         return False
     u, d, c = value
-    if u >= n or d >= n or c >= len(channels) or c not in table[u][d]:
-        return False
-    return is_end(network, table, d, c)
+    return u < n and d < n and c in table[u][d] and is_end(network, table, d, c)
 
 
 # What the parts behind each word have to be, and what shows that they say the truth.

@@ -5,7 +5,7 @@ MAX_CHANNELS = 400
 MAX_ROOM = 1000
 
 
-def is_integer(value, low, high):
+def is_between(value, low, high):
     """Tell whether any value is an integer from low to high; there is no end if high is None."""
     # Python counts True and False among the integers, the document does not.
     if not isinstance(value, int) or isinstance(value, bool) or value < low:
@@ -24,7 +24,7 @@ def is_rising(value, many):
         return False
     least = 0
     for k in value:
-        if not is_integer(k, least, many - 1):
+        if not is_between(k, least, many - 1):
             return False
         least = k + 1
     return True
@@ -32,7 +32,7 @@ def is_rising(value, many):
 
 def is_network(value):
     """Tell whether any value is a network."""
-    if not has_length(value, 2) or not is_integer(value[0], 2, MAX_NODES):
+    if not has_length(value, 2) or not is_between(value[0], 2, MAX_NODES):
         return False
     n, channels = value
     if not isinstance(channels, tuple) or not 1 <= len(channels) <= MAX_CHANNELS:
@@ -45,9 +45,9 @@ def is_channel(n, value):
     if not has_length(value, 3):
         return False
     source, target, room = value
-    if not is_integer(source, 0, n - 1) or not is_integer(target, 0, n - 1) or source == target:
+    if not is_between(source, 0, n - 1) or not is_between(target, 0, n - 1) or source == target:
         return False
-    return is_integer(room, 1, MAX_ROOM)
+    return is_between(room, 1, MAX_ROOM)
 
 
 def is_table(network, value):
@@ -78,7 +78,7 @@ def has_ends(network, table):
 def is_state(network, table, value):
     """Tell whether any value is a state of the fabric."""
     channels = network[1]
-    if not has_length(value, 2) or not is_integer(value[0], 0, None) or not has_length(value[1], len(channels)):
+    if not has_length(value, 2) or not is_between(value[0], 0, None) or not has_length(value[1], len(channels)):
         return False
     count, queues = value
     seen = set()
@@ -87,7 +87,7 @@ def is_state(network, table, value):
         if not isinstance(queue, tuple) or len(queue) > channels[c][2]:
             return False
         for packet in queue:
-            if not has_length(packet, 2) or not is_integer(packet[0], 0, count - 1):
+            if not has_length(packet, 2) or not is_between(packet[0], 0, count - 1):
                 return False
             if not is_placement(network, table, c, packet[1]):
                 return False
@@ -99,13 +99,13 @@ def is_state(network, table, value):
 def is_placement(network, table, c, value):
     """Tell whether any value is a goal for which the channel c is an option at its source."""
     n, channels = network
-    return is_integer(value, 0, n - 1) and c in table[channels[c][0]][value]
+    return is_between(value, 0, n - 1) and c in table[channels[c][0]][value]
 
 
 def is_ranks(case, value):
     """Tell whether any value is ranks of the case."""
     (n, channels), table, onward = case
-    if not has_length(value, len(channels)) or not all([is_integer(rank, 0, None) for rank in value]):
+    if not has_length(value, len(channels)) or not all([is_between(rank, 0, None) for rank in value]):
         return False
     for d in range(n):
         # Where packets for d arrive that are not home, there are options in a case.
@@ -138,12 +138,11 @@ def is_stop(network, table, state, c, value):
     channels = network[1]
     if not is_rising(value, len(channels)):
         return False
-    held = set(value)
     for member in value:
         if len(state[1][member]) < channels[member][2] or not waits_for(network, table, state, member, value):
             return False
-    # A channel of the jam has been looked at; another one need not be full.
-    return c in held or waits_for(network, table, state, c, value)
+    # A channel of the jam has been looked at already; another one need not be full.
+    return waits_for(network, table, state, c, value)
 
 
 def waits_for(network, table, state, c, some):
@@ -180,7 +179,7 @@ def is_move(network, value):
         return False
     if value[0] != ("go" if len(value) == 3 else "out"):
         return False
-    return all([is_integer(c, 0, many - 1) for c in value[1:]])
+    return all([is_between(c, 0, many - 1) for c in value[1:]])
 
 
 def is_possible(network, table, goals, move):

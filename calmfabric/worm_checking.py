@@ -1,6 +1,6 @@
 """Worm knots and search trees for the checker, which uses no other part."""
 
-from calmfabric.checking import has_length, is_integer, is_placement
+from calmfabric.checking import has_length, is_between, is_placement
 
 
 def is_worm_knot(fabric, longest, value):
@@ -23,7 +23,7 @@ def is_worm_knot(fabric, longest, value):
 def is_waiting(fabric, longest, value):
     """Tell whether any value is a pair of a goal and a way for it that is not home and not too long."""
     network, _ = fabric
-    if not has_length(value, 2) or not is_integer(value[0], 0, network[0] - 1):
+    if not has_length(value, 2):
         return False
     d, way = value
     if not is_way(fabric, d, way) or network[1][way[-1]][1] == d:
@@ -32,11 +32,11 @@ def is_waiting(fabric, longest, value):
 
 
 def is_way(fabric, d, value):
-    """Tell whether any value is a way for the goal."""
+    """Tell whether any values are a goal and a way for it."""
     network, table = fabric
     if not isinstance(value, tuple) or len(value) == 0:
         return False
-    if not all([is_integer(c, 0, len(network[1]) - 1) for c in value]) or len(set(value)) != len(value):
+    if not all([is_between(c, 0, len(network[1]) - 1) for c in value]) or len(set(value)) != len(value):
         return False
     if not is_placement(network, table, value[0], d):
         return False
@@ -88,7 +88,7 @@ def is_tree_top(fabric, longest, chosen, barred, value):
     ends = [c for d, way in chosen for c in exits(fabric, d, way)]
     if value[0] == "split":
         c = value[2]
-        return is_integer(c, 0, many - 1) and is_open(chosen, shut, c) and (not chosen or c in ends)
+        return is_between(c, 0, many - 1) and is_open(chosen, shut, c) and (not chosen or c in ends)
     if chosen:
         return any([c in shut for c in ends])
     return all([c in shut for c in range(many)])
@@ -102,7 +102,7 @@ def is_open(chosen, barred, c):
 def is_order(fabric, longest, chosen, barred, value):
     """Tell whether any value is a tuple of channels that have no candidates, one after the other."""
     many = len(fabric[0][1])
-    if not isinstance(value, tuple) or not all([is_integer(c, 0, many - 1) for c in value]):
+    if not isinstance(value, tuple) or not all([is_between(c, 0, many - 1) for c in value]):
         return False
     if not all([is_open(chosen, barred, c) for c in value]):
         return False

@@ -43,7 +43,8 @@ SMALL_CHANGES = tuple(small_change(seed) for seed in range(80))
 
 
 def union_table(old, new):
-    return tuple(tuple(tuple(sorted(set(cell) | set(more))) for cell, more in zip(row, also)) for row, also in zip(old, new))
+    return tuple(tuple(tuple(sorted(set(cell) | set(more))) for cell, more in zip(row, also)) for row,
+        also in zip(old, new))
 
 
 def present(change, switched, u, d):

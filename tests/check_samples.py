@@ -4,7 +4,9 @@ import functools
 import itertools
 
 from change_samples import CHANGE, small_change
-from samples import CHAIN4, DOUBLE, MIXED, NO_OPTIONS, PAIR, RING3, deep, paths_of, plain_dead_ends, put_at, ring, table_of
+from samples import (
+    CHAIN4, DOUBLE, MIXED, NO_OPTIONS, PAIR, RING3, deep, paths_of, put_at, table_of,
+)
 from test_edits import drawn_edits
 from worlds import packed_state, small_fabric, states_of
 from worm_samples import RANKED
@@ -22,7 +24,8 @@ from calmfabric.wormknots import is_worm_knot
 from calmfabric.wormtrees import is_search_tree, worm_verdict
 
 WORDS = (
-    "calm", "jams", "blocked", "frees", "worms calm", "worms jam", "change calm", "change jams", "firm", "weak", "least",
+    "calm", "jams", "blocked", "frees", "worms calm", "worms jam", "change calm", "change jams", "firm", "weak",
+    "least",
 )
 KNOT = ((0, 2), (1, 0), (2, 1))
 FULL = (3, (((0, 2),), ((1, 0),), ((2, 1),)))
@@ -190,10 +193,13 @@ def others_of(part):
     if isinstance(part, int):
         return [part + 1, part - 1, -part - 1, bool(part), None, str(part), (part,), (), 10 ** 3000]
     if isinstance(part, str):
-        return [part + " ", part.upper(), part[:-1], "", None, 0, True, (part,)] + list(WORDS) + ["add", "drop", "end", "knot"]
-    found = [part[:k] + part[k + 1:] for k in range(len(part))] + [part[:k] + part[k - 1:] for k in range(1, len(part) + 1)]
+        return [part + " ", part.upper(), part[:-1], "", None, 0, True, (part,)] + list(WORDS) + ["add", "drop", "end",
+            "knot"]
+    found = [part[:k] + part[k + 1:] for k in range(len(part))] + [part[:k] + part[k - 1:] for k in range(1,
+        len(part) + 1)]
     found += [part[:k] + (part[k + 1], part[k]) + part[k + 2:] for k in range(len(part) - 1)]
-    found += [part[::-1], (), part + ((),), part + (0,), (0,) + part, part + (None,), (part,), None, 0, 1, True, False, ""]
+    found += [part[::-1], (), part + ((),), part + (0,), (0,) + part, part + (None,), (part,), None, 0, 1, True, False,
+        ""]
     return found + [deep(80), deep(78, part)]
 
 
@@ -206,10 +212,3 @@ def variants(value):
             part = part[k]
         found += [put_at(value, path, other) for other in others_of(part) if repr(other) != repr(part)]
     return found
-
-
-def has_dead_end(statement):
-    return plain_dead_ends(statement[1], statement[2]) != []
-
-
-RING4 = ring(4)

@@ -3,8 +3,8 @@ import random
 import unittest
 
 from change_samples import (
-    CHANGE, NETWORK, NEW, OLD, SMALL_CHANGES, change_states, drawn_change_script, moved_first, plain_change_steps, plain_changed,
-    plain_is_changeover, plain_start, present, small_change, union_table,
+    CHANGE, NETWORK, NEW, OLD, SMALL_CHANGES, change_states, drawn_change_script, moved_first, plain_change_steps,
+    plain_changed, plain_is_changeover, plain_start, present, small_change, union_table,
 )
 from samples import CHAIN4, DOUBLE, RING3, WRONG_INTEGERS, WRONG_KINDS, deep, greatest, paths_of, put_at, ring, table_of
 
@@ -41,7 +41,8 @@ class IsChangeoverTest(unittest.TestCase):
                 out = [c for c, channel in enumerate(channels) if channel[0] == u and u != d]
                 for k in range(len(out) + 1):
                     for cell in itertools.combinations(out, k):
-                        for value in ((network, put_at(old, (u, d), cell), new), (network, old, put_at(new, (u, d), cell))):
+                        for value in ((network, put_at(old, (u, d), cell), new),
+                                (network, old, put_at(new, (u, d), cell))):
                             told = plain_is_changeover(*value)
                             self.assertIs(is_changeover(value), told)
                             right += told
@@ -76,7 +77,8 @@ class IsChangeoverTest(unittest.TestCase):
     def test_other_lengths_and_kinds(self):
         for value in (
             (), (NETWORK,), (NETWORK, OLD), (NETWORK, OLD, NEW, NEW), (OLD, NETWORK, NEW), (CHANGE,), list(CHANGE),
-            (NETWORK, OLD[:2], NEW), (NETWORK, OLD, NEW[:2]), (NETWORK, OLD + ((),), NEW), (NETWORK, (), NEW), (NETWORK, OLD, ()),
+            (NETWORK, OLD[:2], NEW), (NETWORK, OLD, NEW[:2]), (NETWORK, OLD + ((),), NEW), (NETWORK, (), NEW),
+            (NETWORK, OLD, ()),
             (NETWORK, put_at(OLD, (0, 0), (0,)), NEW), (NETWORK, OLD, put_at(NEW, (1, 2), (2, 2))),
             (NETWORK, OLD, put_at(NEW, (1, 2), (2, 1))), (NETWORK, put_at(OLD, (0, 1), (6,)), NEW),
             (NETWORK, put_at(OLD, (0, 1), (1,)), NEW),
@@ -110,7 +112,8 @@ class StateTest(unittest.TestCase):
         for switched, right in (
             ((), True), ((0,), True), ((0, 1), True), ((0, 1, 2), True), ((2,), True), ((0, 2), True),
             ((1, 0), False), ((0, 0), False), ((0, 1, 1), False), ((3,), False), ((-1,), False), ((0, 1, 2, 3), False),
-            ((True,), False), ((0, True), False), ((False,), False), ((None,), False), (("0",), False), (((0,),), False),
+            ((True,), False), ((0, True), False), ((False,), False), ((None,), False), (("0",), False),
+            (((0,),), False),
             ([0], False), (0, False), (None, False), ("", False), ((10 ** 3000,), False), (deep(80), False),
         ):
             self.assertIs(is_change_state(CHANGE, (switched, STATE[1])), right, switched)
@@ -130,7 +133,8 @@ class StateTest(unittest.TestCase):
             put_at(STATE, (1, 1, 4, 0, 0), 3), put_at(STATE, (1, 0), 6), put_at(STATE, (1, 1, 0, 0, 0), 7),
             put_at(STATE, (1, 1, 0, 0, 0), -1), put_at(STATE, (1, 1, 0), ((3, 2), (4, 2))), put_at(STATE, (1, 0), -1),
             put_at(STATE, (1, 1), STATE[1][1][:5]), put_at(STATE, (1, 1), STATE[1][1] + ((),)),
-            put_at(STATE, (1, 1, 0, 0), (3,)), put_at(STATE, (1, 1, 0, 0), (3, 2, 0)), put_at(STATE, (1, 1, 0, 0, 1), 0),
+            put_at(STATE, (1, 1, 0, 0), (3,)), put_at(STATE, (1, 1, 0, 0), (3, 2, 0)),
+            put_at(STATE, (1, 1, 0, 0, 1), 0),
             put_at(STATE, (1, 1, 0, 0, 1), True), put_at(STATE, (1, 1, 0, 0, 0), True), put_at(STATE, (1, 0), True),
             put_at(STATE, (1, 1, 1), ((0, 2),)),
         ):
@@ -148,7 +152,8 @@ class StateTest(unittest.TestCase):
                 # A count may be as great as it likes.
                 right = path == (1, 0) and wrong == 10 ** 3000
                 self.assertIs(is_change_state(CHANGE, value), right, (path, wrong))
-        for value in ((), STATE[1], (STATE,), STATE + ((),), (STATE[0],), STATE[::-1], list(STATE), deep(80, STATE), ((), ())):
+        for value in ((), STATE[1], (STATE,), STATE + ((),), (STATE[0],), STATE[::-1], list(STATE), deep(80, STATE),
+                ((), ())):
             self.assertIs(is_change_state(CHANGE, value), False)
 
 
@@ -182,14 +187,16 @@ class StepTest(unittest.TestCase):
     def test_put(self):
         # The node 1 puts by the new table, 0 and 2 by the old one.
         self.yes(STATE, ("put", 1, 0, 1), ("put", 1, 2, 2), ("put", 2, 1, 3))
-        self.no(STATE, ("put", 1, 0, 2), ("put", 0, 1, 0), ("put", 0, 2, 4), ("put", 2, 0, 5), ("put", 2, 1, 5), ("put", 1, 1, 1))
+        self.no(STATE, ("put", 1, 0, 2), ("put", 0, 1, 0), ("put", 0, 2, 4), ("put", 2, 0, 5), ("put", 2, 1, 5),
+            ("put", 1, 1, 1))
         start = change_start(CHANGE)
         self.yes(start, ("put", 0, 1, 0), ("put", 0, 2, 0), ("put", 1, 0, 2), ("put", 2, 0, 5))
         self.no(start, ("put", 0, 2, 4), ("put", 1, 0, 1), ("put", 2, 1, 5), ("put", 0, 0, 0))
-        self.no(STATE, ("put", 3, 0, 1), ("put", 1, 3, 1), ("put", 1, 0, 6), ("put", 10 ** 3000, 0, 1), ("put", 1, 0, 10 ** 3000))
+        self.no(STATE, ("put", 3, 0, 1), ("put", 1, 3, 1), ("put", 1, 0, 6), ("put", 10 ** 3000, 0, 1),
+            ("put", 1, 0, 10 ** 3000))
 
     def test_go(self):
-        # 3 is in 0 and goes on at 1, by the new table, which is the same there; 6 is in 5 and goes on at 0 by the old one.
+        # 3 is in 0 and goes on at 1, where both tables are the same; 6 is in 5 and goes on at 0 by the old one.
         self.yes(STATE, ("go", 0, 2))
         self.no(STATE, ("go", 0, 1), ("go", 0, 3), ("go", 5, 4), ("go", 5, 0), ("go", 1, 2), ("go", 4, 2), ("go", 0, 0))
         self.yes(put_at(STATE, (1, 1, 0), ()), ("go", 5, 0))
@@ -218,7 +225,8 @@ class StepTest(unittest.TestCase):
         self.assertIs(is_changeover(change), True)
         state = play_change(change, change_start(change), (("switch", 0), ("put", 0, 3, 0)))
         self.assertEqual(state, ((0,), (1, (((0, 3),), (), (), ()))))
-        self.assertEqual([step for step in plain_change_steps(change, state) if step[0] != "put"], [("switch", k) for k in (1, 2, 3)])
+        self.assertEqual([step for step in plain_change_steps(change, state) if step[0] != "put"],
+            [("switch", k) for k in (1, 2, 3)])
         for step in (("go", 0, 1), ("go", 0, 2), ("out", 0)):
             self.assertIs(can_change(change, state, step), False)
         behind = changed_by(change, state, ("switch", 1))
@@ -342,7 +350,8 @@ class HomeTest(unittest.TestCase):
         )
         self.assertEqual(home_script(change, ((0, 1, 2, 3), state[1]), (2, 1, 0))[0], ("out", 2))
         self.assertEqual(home_script(change, ((0, 1, 2, 3), (5, ((), (), ()))), (2, 1, 0)), ())
-        self.assertEqual(home_script(change, ((), (0, ((), (), ()))), (2, 1, 0)), tuple(("switch", u) for u in range(4)))
+        self.assertEqual(home_script(change, ((), (0, ((), (), ()))), (2, 1, 0)),
+            tuple(("switch", u) for u in range(4)))
 
 
 class JamTest(unittest.TestCase):
@@ -354,7 +363,8 @@ class JamTest(unittest.TestCase):
         self.assertIsInstance(script, tuple)
         early = [(c, d) for c, d in knot if c in old[channels[c][0]][d]]
         late = [pair for pair in knot if pair not in early]
-        puts = [[("put", channels[c][0], d, c) for c, d in some for _ in range(channels[c][2])] for some in (early, late)]
+        puts = [[("put", channels[c][0], d, c) for c, d in some for _ in range(channels[c][2])] for some in (early,
+            late)]
         self.assertEqual(script, tuple(puts[0] + [("switch", u) for u in range(network[0])] + puts[1]))
         state = play_change(change, change_start(change), script)
         self.assertEqual(state[0], tuple(range(network[0])))

@@ -2,7 +2,8 @@ import itertools
 import unittest
 
 from samples import (
-    CHAIN4, DOUBLE, MIXED, NO_OPTIONS, PAIR, RING3, WRONG_INTEGERS, WRONG_KINDS, deep, greatest, paths_of, plain_dead_ends,
+    CHAIN4, DOUBLE, MIXED, NO_OPTIONS, PAIR, RING3, WRONG_INTEGERS, WRONG_KINDS, deep, greatest, paths_of,
+    plain_dead_ends,
     put_at, random_network, random_table, ring, table_of,
 )
 from test_edits import drawn_edits, plain_edited
@@ -43,7 +44,8 @@ class ReasonTest(unittest.TestCase):
     def test_tables(self):
         words = {}
         for seed in range(150):
-            for network, table in ((random_network(seed), random_table(random_network(seed), seed)), small_fabric(seed)):
+            for network, table in ((random_network(seed), random_table(random_network(seed), seed)),
+                    small_fabric(seed)):
                 reason = reason_against(network, table)
                 ends = plain_dead_ends(network, table)
                 if reason is None:
@@ -92,8 +94,10 @@ class ReasonTest(unittest.TestCase):
         knot = ((0, 2), (1, 0), (2, 1))
         self.assertIs(is_reason(network, table, ("knot", knot)), True)
         for value in (
-            knot, ("end", knot), ("knot", ()), ("knot", knot[:2]), ("knot", knot[::-1]), ("knot",), ("knot", knot, knot),
-            ("Knot", knot), ("", knot), (None, knot), (True, knot), (0, knot), ("knot", knot + knot[-1:]), ("ranks", knot),
+            knot, ("end", knot), ("knot", ()), ("knot", knot[:2]), ("knot", knot[::-1]), ("knot",),
+            ("knot", knot, knot),
+            ("Knot", knot), ("", knot), (None, knot), (True, knot), (0, knot), ("knot", knot + knot[-1:]),
+            ("ranks", knot),
             ("end", (0, 2, 0)), ("end", ()), ("end", (0, 2)), ("end", (0, 2, 0, 0)), ("end", ((0, 2, 0),)), ("end", 0),
             (knot, "knot"), ["knot", knot], ("knot", list(knot)), (("knot", knot),),
         ):
@@ -118,7 +122,8 @@ class ReasonTest(unittest.TestCase):
 
     def test_a_reason_against_a_calm_table(self):
         for fabric in (PAIR, CHAIN4, DOUBLE, NO_OPTIONS):
-            for value in (None, (), ("knot", ()), ("end", ()), ("end", (0, 1, 0)), ("knot", ((0, 1),)), ("knot", ((0, 0),))):
+            for value in (None, (), ("knot", ()), ("end", ()), ("end", (0, 1, 0)), ("knot", ((0, 1),)),
+                    ("knot", ((0, 0),))):
                 self.assertIs(is_reason(*fabric, value), False)
 
 
@@ -221,6 +226,19 @@ class AnswerTest(unittest.TestCase):
         for subset in ((2,), (1, 0), (0, 0), (1, 1), (True,), (-1,), (0, 1, 2), [1], 1, "1", ((1,),)):
             self.assertIs(is_answer(RING, RING_EDITS, put_at(RING_ANSWER, (0,), subset)), False, subset)
 
+    def test_an_earlier_subset(self):
+        # All reasons before it are right, but it has one itself.
+        seen = {"end": 0, "knot": 0}
+        for fabric, edits in SMALL + ((RING, RING_EDITS),):
+            answer = least_change(fabric, edits)
+            for k, reason in enumerate(answer[2]):
+                for ranks in (answer[1], (0,) * len(fabric[0][1]), tuple(range(len(fabric[0][1])))):
+                    value = (subsets(len(edits))[k], ranks, answer[2][:k])
+                    self.assertIs(is_answer(fabric, edits, value), False)
+                    self.assertIs(is_answer(fabric, edits, (None, (), answer[2][:k])), False)
+                seen[reason[0]] += 1
+        self.assertGreater(min(seen.values()), 20)
+
     def test_a_later_calm_subset(self):
         # It is calm, but not the least one; nothing can be told against the one before.
         edits = (("drop", 2, 1, 2), ("add", 0, 1, 0))
@@ -247,7 +265,8 @@ class AnswerTest(unittest.TestCase):
             for k, j in itertools.combinations(range(len(reasons)), 2):
                 value = put_at(put_at(reasons, (k,), reasons[j]), (j,), reasons[k])
                 right = all(
-                    plain_is_reason(network, plain_edited(table, edits, some), reason) for some, reason in zip(every, value)
+                    plain_is_reason(network, plain_edited(table, edits, some), reason) for some,
+                    reason in zip(every, value)
                 )
                 self.assertIs(is_answer(fabric, edits, put_at(answer, (2,), value)), right)
                 tried += not right
@@ -276,8 +295,10 @@ class AnswerTest(unittest.TestCase):
         self.assertEqual(answer, (None, (), RING_ANSWER[2]))
         for value in (
             (None, (), ()), (None, (), answer[2][:1]), (None, (), answer[2] + answer[2]), (None, (2, 1, 0), answer[2]),
-            (None, None, answer[2]), (None, 0, answer[2]), (None, (0,), answer[2]), ((), (), answer[2]), ((0,), (), answer[2]),
-            (None, (), answer[2][::-1]), (False, (), answer[2]), (0, (), answer[2]), (None, ((),), answer[2]), (None, "", answer[2]),
+            (None, None, answer[2]), (None, 0, answer[2]), (None, (0,), answer[2]), ((), (), answer[2]),
+            ((0,), (), answer[2]),
+            (None, (), answer[2][::-1]), (False, (), answer[2]), (0, (), answer[2]), (None, ((),), answer[2]),
+            (None, "", answer[2]),
         ):
             self.assertIs(is_answer(RING, edits, value), False, value)
         self.assertIs(is_answer(RING, RING_EDITS, (None, (), RING_ANSWER[2])), False)
@@ -293,7 +314,8 @@ class AnswerTest(unittest.TestCase):
                 for wrong in WRONG_KINDS + WRONG_INTEGERS[:1] + WRONG_INTEGERS[3:]:
                     if repr(wrong) != repr(part):
                         self.assertIs(is_answer(fabric, edits, put_at(answer, path, wrong)), False, (path, wrong))
-            for value in ((), answer[:2], answer + ((),), (answer,), answer[::-1], list(answer), deep(80, answer), ((), (), ())):
+            for value in ((), answer[:2], answer + ((),), (answer,), answer[::-1], list(answer), deep(80, answer),
+                    ((), (), ())):
                 if value != answer:
                     self.assertIs(is_answer(fabric, edits, value), False)
 

@@ -6,15 +6,19 @@ import unittest
 
 from change_samples import CHANGE, SMALL_CHANGES, change_states, small_change
 from check_samples import (
-    FULL, HALF, KNOT, OPEN, RING_EDITS, WORDS, channel_statement, drawn_samples, failure_statement, firm_rows, plain_is_right,
+    FULL, HALF, KNOT, OPEN, RING_EDITS, WORDS, channel_statement, drawn_samples, failure_statement, firm_rows,
+    plain_is_right,
     plain_is_sound, samples, sets_up_to, variants, weak_pairs,
 )
-from samples import CHAIN4, MIXED, PAIR, RING3, WRONG_INTEGERS, WRONG_KINDS, deep, greatest, paths_of, put_at, ring, table_of
+from samples import (
+    CHAIN4, MIXED, PAIR, RING3, WRONG_INTEGERS, WRONG_KINDS, deep, greatest, paths_of, put_at, ring,
+    table_of,
+)
 from test_edits import drawn_edits
 from test_wormtrees import plain_tree
 from verdict_samples import ESCAPE, FULL_FABRICS
-from worlds import TORUS, packed_state, small_fabric
-from worm_samples import LONG, RANKED
+from worlds import TORUS, packed_state, plain_after, plain_possible, small_fabric
+from worm_samples import LONG, RANKED, plain_candidates, plain_options
 
 from calmfabric.blocked import stop_of, way_out
 from calmfabric.cases import case_of
@@ -30,8 +34,10 @@ from calmfabric.wormtrees import worm_verdict
 
 # Values that are of some form of certificates.
 STRANGE = WRONG_KINDS + WRONG_INTEGERS + (
-    (), ((),), ((), ()), ((), (), ()), (0,), (0, 0), ((0, 0),), ((0, 1),), (None, (), ()), ("closed", ()), ("split", (), 0, ()),
-    ("knot", ()), ("end", (0, 1, 0)), (((0,), ()),), ((0,), ()), (("go", 0, 1),), (("out", 0),), (("put", 0, 1, 0),), ((0, (0,)),),
+    (), ((),), ((), ()), ((), (), ()), (0,), (0, 0), ((0, 0),), ((0, 1),), (None, (), ()), ("closed", ()),
+    ("split", (), 0, ()),
+    ("knot", ()), ("end", (0, 1, 0)), (((0,), ()),), ((0,), ()), (("go", 0, 1),), (("out", 0),), (("put", 0, 1, 0),),
+    ((0, (0,)),),
 )
 
 
@@ -225,13 +231,33 @@ class TruthTest(unittest.TestCase):
                 statement, certificate = failure_statement(fabric, k)
                 word, about = statement[0], statement[1:]
                 if word == "firm":
-                    pairs = tuple((some, ((c, d),)) for some in sets_up_to(many, k)[:9] for c in range(3) for d in range(3))
+                    pairs = tuple((some, ((c, d),)) for some in sets_up_to(many,
+                        k)[:9] for c in range(3) for d in range(3))
                     self.one_of("firm", "weak", about, certificate, pairs)
                 else:
                     rows = tuple((some, (0,) * many) for some in sets_up_to(many, k))
                     self.one_of("weak", "firm", about, certificate, (rows, rows[:1], ()))
                 words[word] = words.get(word, 0) + 1
         self.assertGreater(min(words.values()), 20)
+
+
+def forged_tree(fabric, longest, forge, chosen=(), barred=()):
+    """A tree that is right but for its ends where all options of the chosen ways are on them, which are a worm knot."""
+    many = len(fabric[0][1])
+    taken = set(barred).union(*[way for _, way in chosen])
+    needed = sorted({c for d, way in chosen for c in plain_options(fabric, d, way)})
+    if set(needed) & set(barred) if chosen else len(taken) == many:
+        return ("closed", ())
+    free = [c for c in (needed if chosen else range(many)) if c not in taken]
+    if not free:
+        return (("split", (), needed[0], ()), ("split", (), many, ()), ("closed", ()),
+            ("split", (needed[0],), needed[0], ()))[forge]
+    c = free[0]
+    pairs = plain_candidates(fabric, longest, chosen, barred, c)
+    trees = [forged_tree(fabric, longest, forge, chosen + (pair,), barred) for pair in pairs]
+    if not chosen:
+        trees.append(forged_tree(fabric, longest, forge, chosen, barred + (c,)))
+    return ("split", (), c, tuple(trees))
 
 
 class WormTest(unittest.TestCase):
@@ -248,13 +274,54 @@ class WormTest(unittest.TestCase):
                     self.assertIs(check(statement, value), plain_is_right(statement, value))
         self.assertGreater(len(sizes), 25)
 
+    def test_forged_trees(self):
+        # Where a worm knot is chosen, they split at a channel of a chosen way, at a barred one, or at none.
+        tried = 0
+        for fabric, longest in ((RANKED[5], 7), (RANKED[3], 3), (RANKED[6], 2), (RING3, 1), (RING3, 2), (MIXED, 1)):
+            for forge in range(4):
+                tree = forged_tree(fabric, longest, forge)
+                self.assertIs(check(("worms calm",) + fabric + (longest,), tree), False)
+                tried += 1
+        self.assertEqual(tried, 24)
+
+    def test_splits_at_channels_that_are_none(self):
+        # Barring a channel that is none, or one that is barred already, leaves all as it was.
+        tree = ("closed", (2, 1, 0))
+        statement = ("worms calm",) + CHAIN4 + (9,)
+        self.assertIs(check(statement, tree), True)
+        for c in (3, 4, -1, -3, 399, 10 ** 3000, True, None):
+            self.assertIs(check(statement, ("split", (), c, (tree,))), False)
+        self.assertIs(check(statement, ("split", (), 2, (("closed", (1, 0)),))), True)
+        for c in (0, 1, 2):
+            self.assertIs(check(statement, ("split", (2, 1, 0), c, (("closed", ()),))), False)
+            self.assertIs(check(statement, ("split", (2, 1, 0), c, ())), False)
+        for order, right in (((2, -1, 1, 0), False), ((-1, 1, 0), False), ((2, 1, 0, -3), False),
+                ((2, 2, 1, 1, 0), True)):
+            self.assertIs(check(statement, ("closed", order)), right, order)
+
+    def test_ways_past_barred_channels(self):
+        # Channel 4 and 5 lead home from the nodes 1 and 2; when they are barred, a way from 0 still goes on to 3.
+        network = (5, ((0, 1, 1), (1, 2, 2), (2, 3, 3), (3, 4, 1), (1, 4, 1), (2, 4, 1)))
+        fabric = (network, table_of(5, {(0, 4): (0,), (1, 4): (1, 4), (2, 4): (2, 5), (3, 4): (3,)}))
+        for longest in (1, 2, 5, 6, 7):
+            statement = ("worms calm",) + fabric + (longest,)
+            self.assertIs(check(statement, ("closed", (3, 4, 5, 2, 1, 0))), True)
+            # 0 with 1 and 2 is a way for six flits; 1 with 2 for four.
+            self.assertIs(check(statement, ("closed", (4, 5, 0, 3, 2, 1))), longest < 6)
+            self.assertIs(check(statement, ("closed", (4, 5, 1, 0, 3, 2))), longest < 4)
+            for order in itertools.permutations(range(6)):
+                if order[0] in (4, 5):
+                    value = ("closed", order)
+                    self.assertIs(check(statement, value), plain_is_right(statement, value))
+
     def test_orders(self):
         # In LONG nobody waits in channel 4; then not in 3, and so on.
         for order in itertools.permutations(range(6)):
             statement = ("worms calm",) + LONG + (9,)
             self.assertIs(check(statement, ("closed", order)), plain_is_right(statement, ("closed", order)))
         for order, right in (
-            ((4, 3, 2, 1, 5, 0), True), ((4, 3, 2, 1, 5, 0, 0), True), ((4, 4, 3, 3, 2, 1, 5, 4, 0), True), ((4, 3, 2, 1, 5), False),
+            ((4, 3, 2, 1, 5, 0), True), ((4, 3, 2, 1, 5, 0, 0), True), ((4, 4, 3, 3, 2, 1, 5, 4, 0), True),
+            ((4, 3, 2, 1, 5), False),
             ((4, 3, 2, 1, 5, 0, 6), False), ((4, 3, 2, 1, 5, -6), False), ((4, 3, 2, True, 5, 0), False), ((), False),
         ):
             self.assertIs(check(("worms calm",) + LONG + (1000000,), ("closed", order)), right, order)
@@ -273,14 +340,22 @@ class WormTest(unittest.TestCase):
     def test_knots_by_hand(self):
         square = ring(4, 2)
         knot = ((0, (1, 2)), (2, (3, 0)))
+        # Nothing is wrong with these but that a channel is on two of the ways.
+        for value in (((0, (1, 2)), (0, (2,)), (2, (3, 0))), ((0, (1, 2)), (2, (0,)), (2, (3, 0))),
+                ((0, (1, 2)), (2, (3, 0)), (3, (1,)))):
+            self.assertIs(check(("worms jam",) + square + (9,), value), False, value)
         for longest, right in ((1, False), (2, False), (3, True), (1000000, True)):
             self.assertIs(check(("worms jam",) + square + (longest,), knot), right)
         for value in (
-            (), knot[:1], knot[1:], knot[::-1], knot + knot[1:], knot[:1] + knot, ((0, (2, 1)), (2, (3, 0))), ((0, (1, 2)), (2, (3,))),
-            ((0, (1, 2)), (3, (3, 0))), ((3, (1, 2)), (2, (3, 0))), ((0, (1, 2, 3)), (2, (3, 0))), ((0, (1, 2)), (2, (2, 3, 0))),
+            (), knot[:1], knot[1:], knot[::-1], knot + knot[1:], knot[:1] + knot, ((0, (2, 1)), (2, (3, 0))),
+            ((0, (1, 2)), (2, (3,))),
+            ((0, (1, 2)), (3, (3, 0))), ((3, (1, 2)), (2, (3, 0))), ((0, (1, 2, 3)), (2, (3, 0))),
+            ((0, (1, 2)), (2, (2, 3, 0))),
             ((0, (1, 2)), (2, (3, 0, 0))), ((0, (1, 2)), (2, ())), ((0, (1, 2)), (2, 3)), ((0, (1, 2)), (-2, (3, 0))),
-            ((0, (1, 2)), (4, (3, 0))), ((0, (1, 2)), (2, (-1, 0))), ((0, (1, 2)), (2, (3, 4))), ((False, (1, 2)), (2, (3, 0))),
-            ((0, (True, 2)), (2, (3, 0))), ((0, (1, 2)), (2, (3, False))), list(knot), ((0, [1, 2]), (2, (3, 0))), None, 0, deep(80, knot),
+            ((0, (1, 2)), (4, (3, 0))), ((0, (1, 2)), (2, (-1, 0))), ((0, (1, 2)), (2, (3, 4))),
+            ((False, (1, 2)), (2, (3, 0))),
+            ((0, (True, 2)), (2, (3, 0))), ((0, (1, 2)), (2, (3, False))), list(knot), ((0, [1, 2]), (2, (3, 0))), None,
+            0, deep(80, knot),
         ):
             self.assertIs(check(("worms jam",) + square + (9,), value), False, value)
 
@@ -289,9 +364,11 @@ class RanksTest(unittest.TestCase):
     def test_greater_ranks(self):
         statement = ("calm",) + HALF
         for value, right in (
-            ((2, 1, 0), True), ((5, 3, 1), True), ((10 ** 3000, 10 ** 2999, 0), True), ((2, 2, 0), False), ((2, 1, 1), False),
+            ((2, 1, 0), True), ((5, 3, 1), True), ((10 ** 3000, 10 ** 2999, 0), True), ((2, 2, 0), False),
+            ((2, 1, 1), False),
             ((0, 1, 2), False), ((2, 1), False), ((2, 1, 0, 0), False), ((2, 1, -1), False), ((2, 1, False), False),
-            ((2, True, 0), False), ((2, 1, None), False), ((2, 1, "0"), False), ([2, 1, 0], False), ((2, 1, (0,)), False),
+            ((2, True, 0), False), ((2, 1, None), False), ((2, 1, "0"), False), ([2, 1, 0], False),
+            ((2, 1, (0,)), False),
         ):
             self.assertIs(check(statement, value), right, value)
 
@@ -325,7 +402,8 @@ class ChannelTest(unittest.TestCase):
         about = RING3 + (FULL, 0)
         for value, right in (
             ((0, 1, 2), True), ((0, 1), False), ((0, 2), False), ((1, 2), False), ((), False), ((0, 1, 2, 3), False),
-            ((2, 1, 0), False), ((0, 1, 1, 2), False), ((0, 1, 2, 2), False), ((False, 1, 2), False), ((0, True, 2), False),
+            ((2, 1, 0), False), ((0, 1, 1, 2), False), ((0, 1, 2, 2), False), ((False, 1, 2), False),
+            ((0, True, 2), False),
             ([0, 1, 2], False), ((0, 1, (2,)), False), ((0, 1, None), False), (0, False), ((-3, -2, -1), False),
         ):
             self.assertIs(check(("blocked",) + about, value), right, value)
@@ -333,7 +411,8 @@ class ChannelTest(unittest.TestCase):
     def test_a_stop_for_a_channel_outside(self):
         # Channel 3 leads into a full ring; it has room for one more packet itself.
         network = (4, ((0, 1, 1), (1, 2, 1), (2, 0, 1), (3, 0, 2)))
-        table = table_of(4, {**{(u, d): (u,) for u in range(3) for d in range(3) if u != d}, (3, 1): (3,), (3, 0): (3,)})
+        table = table_of(4, {**{(u, d): (u,) for u in range(3) for d in range(3) if u != d}, (3, 1): (3,),
+            (3, 0): (3,)})
         state = (5, FULL[1] + (((3, 1),),))
         about = (network, table, state, 3)
         self.assertIs(check(("blocked",) + about, (0, 1, 2)), True)
@@ -352,11 +431,15 @@ class ChannelTest(unittest.TestCase):
         for value in (
             right[:2], right[1:], right[::-1], (), right + right[:1], right + (("go", 1, 2),), (("go", 0, 1),),
             (("out", 2), ("go", 1, 2), ("out", 2)), right[:1] + right, (("put", 0, 3, 0),) + right,
-            (("out", 2), ("go", 1, 2), ("go", 0, 1, 1)), (("out", 2), ("go", 1, 2), ("go", 0)), (("out", 2, 2),) + right[1:],
-            (("Out", 2),) + right[1:], (("out", True),) + right[1:], (("out", 2), ("go", True, 2), right[2]), list(right),
+            (("out", 2), ("go", 1, 2), ("go", 0, 1, 1)), (("out", 2), ("go", 1, 2), ("go", 0)),
+            (("out", 2, 2),) + right[1:],
+            (("Out", 2),) + right[1:], (("out", True),) + right[1:], (("out", 2), ("go", True, 2), right[2]),
+            list(right),
             (("out", 2), ("go", 1, 2), ["go", 0, 1]), (right,), (("out", 3),) + right, (("out", -1),) + right[1:],
-            (("out", 2), ("go", -2, 2), right[2]), (("out", 2), ("go", 1, -1), right[2]), (("out", 10 ** 3000),) + right[1:],
-            (("out", 2), ("go", 1, 2), ("out", 2), ("go", 0, 1), ("go", 1, 2)), (("pull", 0, 1),), ((),) + right, (None,) + right,
+            (("out", 2), ("go", -2, 2), right[2]), (("out", 2), ("go", 1, -1), right[2]),
+            (("out", 10 ** 3000),) + right[1:],
+            (("out", 2), ("go", 1, 2), ("out", 2), ("go", 0, 1), ("go", 1, 2)), (("pull", 0, 1),), ((),) + right,
+            (None,) + right,
         ):
             self.assertIs(check(("frees",) + about, value), False, value)
         longer = (("out", 2), ("go", 1, 2), ("out", 2), ("go", 0, 1))
@@ -365,10 +448,59 @@ class ChannelTest(unittest.TestCase):
         self.assertIs(check(("frees",) + CHAIN4 + (state, 1), right[:2]), True)
         self.assertIs(check(("frees",) + CHAIN4 + (state, 1), right), False)
 
+    def test_drawn_moves(self):
+        right, wrong = 0, 0
+        for seed in range(60):
+            network, table = small_fabric(seed)
+            fabric = ((network[0], tuple((u, v, 1 + k % 3) for k, (u, v, _) in enumerate(network[1]))), table)
+            for state in [packed_state(fabric, k) for k in range(4)]:
+                rng = random.Random(seed)
+                now, script = state, ()
+                for _ in range(12):
+                    moves = [step for step in plain_possible(fabric, now) if step[0] != "put"]
+                    if not moves:
+                        break
+                    script += (rng.choice(moves),)
+                    now = plain_after(fabric, now, script[-1])
+                for c in range(len(network[1])):
+                    firsts = [k for k, step in enumerate(script) if step[1] == c]
+                    statement = ("frees",) + fabric + (state, c)
+                    if firsts and state[1][c]:
+                        # Up to the first move from the channel; with a step more, less, twice.
+                        way = script[:firsts[0] + 1]
+                        self.assertIs(check(statement, way), True)
+                        self.assertIs(check(statement, script), firsts == [len(script) - 1])
+                        right += len(way) > 1
+                        for k in range(len(way)):
+                            for value in (way[:k] + way[k + 1:], way[:k] + way[k:k + 1] + way[k:],
+                                    way[:k] + way[k:][::-1]):
+                                told = plain_is_right(statement, value)
+                                self.assertIs(check(statement, value), told)
+                                wrong += not told
+        self.assertTrue(right > 100 and wrong > 500, (right, wrong))
+
+    def test_packets_behind_each_other(self):
+        # Of the packets in channel 0 the first one goes on to 1, the second one is home behind it.
+        network = (4, ((0, 1, 2), (1, 2, 2), (3, 0, 1)))
+        table = table_of(4, {(0, 1): (0,), (0, 2): (0,), (1, 2): (1,), (3, 1): (2,), (3, 2): (2,)})
+        state = (3, (((0, 2), (1, 1)), (), ((2, 2),)))
+        statement = ("frees", network, table, state, 2)
+        for value, right in (
+            ((("go", 0, 1), ("go", 2, 0)), True), ((("go", 0, 1), ("out", 0), ("go", 2, 0)), True),
+            ((("out", 0), ("go", 2, 0)), False),
+            ((("go", 0, 1), ("out", 1), ("go", 2, 0)), True),
+            ((("go", 0, 1), ("out", 1), ("out", 1), ("go", 2, 0)), False),
+            ((("go", 0, 1), ("go", 0, 1), ("go", 2, 0)), False),
+            ((("go", 0, 1), ("out", 0), ("out", 0), ("go", 2, 0)), False),
+            ((("go", 2, 0),), False), ((("go", 0, 1), ("out", 0), ("out", 1), ("go", 2, 0)), True),
+        ):
+            self.assertIs(check(statement, value), right, value)
+
     def test_a_round_through_the_own_channel(self):
         # A packet behind the first one must not go before it.
         state = (4, (((0, 1), (1, 1), (2, 1)), ()))
-        for value, right in (((("out", 0),), True), ((("out", 0),) * 2, False), ((("out", 0),) * 3, False), ((), False)):
+        for value, right in (((("out", 0),), True), ((("out", 0),) * 2, False), ((("out", 0),) * 3, False),
+                ((), False)):
             self.assertIs(check(("frees",) + PAIR + (state, 0), value), right)
 
 
@@ -430,7 +562,8 @@ class FailureTest(unittest.TestCase):
         for value in (
             (), pair[:1], pair + ((),), pair[::-1], (3, KNOT), ((), KNOT), ((2,), KNOT), ((4,), KNOT), ((-1,), KNOT),
             ((3, 3), KNOT), ((3,), KNOT[:2]), ((3,), ()), ((3,), None), (None, KNOT), ([3], KNOT), list(pair), (pair,),
-            ((3,), put_at(KNOT, (0, 0), False)), ((3,), put_at(KNOT, (1, 0), True)), (((3,),), KNOT), (("3",), KNOT), ((1, 3), KNOT),
+            ((3,), put_at(KNOT, (0, 0), False)), ((3,), put_at(KNOT, (1, 0), True)), (((3,),), KNOT), (("3",), KNOT),
+            ((1, 3), KNOT),
         ):
             self.assertIs(check(statement, value), False, value)
         # A channel of the knot can't be one that fails, and the ring is no knot without the failure.
@@ -470,6 +603,10 @@ class LeastTest(unittest.TestCase):
             for subset in subsets(len(edits)) + [None]:
                 self.assertIs(check(statement, put_at(answer, (0,), subset)), subset == answer[0])
             reasons = answer[2]
+            for k, subset in enumerate(subsets(len(edits))[:len(reasons)]):
+                # All reasons before it are right, but it has one itself.
+                for ranks in (answer[1], (0,) * len(fabric[0][1]), tuple(range(len(fabric[0][1])))):
+                    self.assertIs(check(statement, (subset, ranks, reasons[:k])), False)
             for k in range(len(reasons)):
                 for value in (reasons[:k] + reasons[k + 1:], reasons[:k + 1] + reasons[k:], reasons[:k]):
                     self.assertIs(check(statement, put_at(answer, (2,), value)), False)
@@ -507,12 +644,18 @@ class LeastTest(unittest.TestCase):
         statement = ("least",) + RING3 + (RING_EDITS,)
         answer = least_change(RING3, RING_EDITS)
         for path, value in (
-            ((2, 1), ("end", (2, 1, 2, 0))), ((2, 1), ("end", (2, 1))), ((2, 1), ("end", (2, 1, 1))), ((2, 1), ("end", (2, 1, 3))),
-            ((2, 1), ("end", (3, 1, 2))), ((2, 1), ("end", (2, 3, 2))), ((2, 1), ("end", (-1, 1, 2))), ((2, 1), ("end", (2, -2, 2))),
-            ((2, 1), ("end", (2, 1, -1))), ((2, 1), ("end", (2, True, 2))), ((2, 1), ("end", (0, 2, 0))), ((2, 1), ("End", (2, 1, 2))),
-            ((2, 1), ("knot", KNOT)), ((2, 0), ("end", KNOT)), ((2, 0), ("knot", KNOT[:2])), ((2, 0), ("knot", KNOT, 0)),
-            ((2, 0), ("knot",)), ((2, 0), KNOT), ((2, 0), None), ((2,), None), ((2,), answer[2][::-1]), ((2,), list(answer[2])),
-            ((2,), answer[2][0]), ((1,), ()), ((1,), (0, 0, 0)), ((1,), None), ((0,), 1), ((0,), (True,)), ((0,), (1, 1)),
+            ((2, 1), ("end", (2, 1, 2, 0))), ((2, 1), ("end", (2, 1))), ((2, 1), ("end", (2, 1, 1))),
+            ((2, 1), ("end", (2, 1, 3))),
+            ((2, 1), ("end", (3, 1, 2))), ((2, 1), ("end", (2, 3, 2))), ((2, 1), ("end", (-1, 1, 2))),
+            ((2, 1), ("end", (2, -2, 2))),
+            ((2, 1), ("end", (2, 1, -1))), ((2, 1), ("end", (2, True, 2))), ((2, 1), ("end", (0, 2, 0))),
+            ((2, 1), ("End", (2, 1, 2))),
+            ((2, 1), ("knot", KNOT)), ((2, 0), ("end", KNOT)), ((2, 0), ("knot", KNOT[:2])),
+            ((2, 0), ("knot", KNOT, 0)),
+            ((2, 0), ("knot",)), ((2, 0), KNOT), ((2, 0), None), ((2,), None), ((2,), answer[2][::-1]),
+            ((2,), list(answer[2])),
+            ((2,), answer[2][0]), ((1,), ()), ((1,), (0, 0, 0)), ((1,), None), ((0,), 1), ((0,), (True,)),
+            ((0,), (1, 1)),
             ((0,), (1, 0)), ((0,), (2,)), ((0,), (-1,)), ((0,), "1"), ((0,), [1]), ((0,), False), ((0,), 0),
         ):
             self.assertIs(check(statement, put_at(answer, path, value)), False, (path, value))
@@ -525,7 +668,8 @@ class LeastTest(unittest.TestCase):
         self.assertIs(check(statement, answer), True)
         for value in (
             (None, (), answer[2][:1]), (None, (0, 0, 0), answer[2]), (None, None, answer[2]), ((), (2, 1, 0), ()),
-            ((0,), (2, 1, 0), answer[2][:1]), (None, (), answer[2] * 2), (None, (), ()), (None, "", answer[2]), (False, (), answer[2]),
+            ((0,), (2, 1, 0), answer[2][:1]), (None, (), answer[2] * 2), (None, (), ()), (None, "", answer[2]),
+            (False, (), answer[2]),
         ):
             self.assertIs(check(statement, value), False, value)
 

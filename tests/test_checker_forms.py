@@ -4,7 +4,10 @@ import unittest
 
 from change_samples import CHANGE, NETWORK, NEW, OLD
 from check_samples import FULL, OPEN, RING_EDITS, WORDS, plain_is_right, plain_is_sound, samples, variants
-from samples import CHAIN4, DOUBLE, MIXED, PAIR, RING3, WRONG_INTEGERS, WRONG_KINDS, deep, greatest, paths_of, put_at, table_of
+from samples import (
+    CHAIN4, DOUBLE, MIXED, PAIR, RING3, WRONG_INTEGERS, WRONG_KINDS, deep, greatest, paths_of, put_at,
+    table_of,
+)
 
 from calmfabric.checker import check, is_sound
 from calmfabric.tables import empty_table
@@ -56,7 +59,8 @@ class FormTest(unittest.TestCase):
 
     def test_words(self):
         ranks = (0, 0)
-        for word in ("Calm", "CALM", "calm ", " calm", "", "jam", "worms", "worms  calm", "change", "cal", "c", 0, None, True):
+        for word in ("Calm", "CALM", "calm ", " calm", "", "jam", "worms", "worms  calm", "change", "cal", "c", 0, None,
+                True):
             self.no((word,) + PAIR, ranks)
         for word in (("calm",), deep(79), deep(79, "calm"), ("calm",) + PAIR, 10 ** 3000):
             self.no((word,) + PAIR, ranks)
@@ -64,7 +68,8 @@ class FormTest(unittest.TestCase):
 
     def test_lengths(self):
         for statement, certificate in samples():
-            for value in (statement[:-1], statement + ((),), statement + (1,), statement[:1], (), statement[1:], (statement,)):
+            for value in (statement[:-1], statement + ((),), statement + (1,), statement[:1], (), statement[1:],
+                    (statement,)):
                 self.no(value, certificate)
             self.no(list(statement), certificate)
             self.no(deep(80, statement), certificate)
@@ -77,13 +82,24 @@ class FormTest(unittest.TestCase):
         network, table = (3, ((0, 1, 1), (1, 2, 1), (2, 0, 1))), put_at(RING3[1], (2, 1), ())
         self.assertIs(check(("calm", network, table), ranks), True)
         for value in (
-            (1, network[1]), (0, network[1]), (65, network[1]), (3, ()), (3, network[1][:2]), (4, network[1]), (2, network[1]),
+            (1, network[1]), (0, network[1]), (65, network[1]), (3, ()), (3, network[1][:2]), (4, network[1]),
+            (2, network[1]),
             (3, ((0, 0, 1),) + network[1][1:]), (3, ((0, 3, 1),) + network[1][1:]), (3, ((-1, 1, 1),) + network[1][1:]),
             put_at(network, (1, 0, 2), 0), put_at(network, (1, 0, 2), 1001), put_at(network, (1, 0, 2), True),
-            put_at(network, (1, 0), (0, 1)), put_at(network, (1, 0), (0, 1, 1, 1)), (True, network[1]), (3,), (3, network[1], 0),
+            put_at(network, (1, 0), (0, 1)), put_at(network, (1, 0), (0, 1, 1, 1)), (True, network[1]), (3,),
+            (3, network[1], 0),
         ):
             self.no(("calm", value, table), ranks)
         self.assertIs(check(("calm", put_at(network, (1, 0, 2), 1000), table), ranks), True)
+        # One more channel, which no table uses.
+        for channel, right in (
+            ((0, 2, 1), True), ((2, 0, 1000), True), ((3, 0, 1), False), ((0, 3, 1), False), ((-1, 0, 1), False),
+            ((0, -1, 1), False),
+            ((1, 1, 1), False), ((0, 2, 0), False), ((0, 2, 1001), False), ((0, 2), False), ((0, 2, 1, 1), False),
+            ((), False),
+            ((False, 2, 1), False), ((0, True, 1), False), ((0, 2, True), False), (None, False), ("021", False),
+        ):
+            self.assertIs(check(("calm", (3, network[1] + (channel,)), table), ranks + (0,)), right, channel)
 
     def test_the_greatest_network(self):
         network, table = greatest()
@@ -99,8 +115,10 @@ class FormTest(unittest.TestCase):
         network, table = PAIR
         for value in (
             (), table[:1], table + ((),), put_at(table, (0,), ((),)), put_at(table, (0,), ((), (0,), ())),
-            put_at(table, (0, 0), (0,)), put_at(table, (0, 1), (1,)), put_at(table, (0, 1), (0, 0)), put_at(table, (0, 1), (2,)),
-            put_at(table, (0, 1), (-2,)), put_at(table, (0, 1), 0), put_at(table, (0, 1), (False,)), put_at(table, (1, 0), (True,)),
+            put_at(table, (0, 0), (0,)), put_at(table, (0, 1), (1,)), put_at(table, (0, 1), (0, 0)),
+            put_at(table, (0, 1), (2,)),
+            put_at(table, (0, 1), (-2,)), put_at(table, (0, 1), 0), put_at(table, (0, 1), (False,)),
+            put_at(table, (1, 0), (True,)),
         ):
             for word in ("calm", "jams"):
                 self.no((word, network, value), (0, 0))
@@ -129,11 +147,14 @@ class FormTest(unittest.TestCase):
         state = FULL
         for word in ("blocked", "frees"):
             for value in (
-                put_at(state, (0,), 2), put_at(state, (0,), -1), put_at(state, (1, 0, 0, 0), 1), put_at(state, (1, 0, 0, 0), 3),
+                put_at(state, (0,), 2), put_at(state, (0,), -1), put_at(state, (1, 0, 0, 0), 1),
+                put_at(state, (1, 0, 0, 0), 3),
                 put_at(state, (1, 0, 0, 1), 0), put_at(state, (1, 0, 0, 1), 3), put_at(state, (1, 0), ((0, 2), (0, 1))),
                 (3, state[1][:2]), (3, state[1] + ((),)), (3,), state[1], (3, state[1], 0), put_at(state, (0,), True),
                 put_at(state, (1, 1, 0, 0), True), put_at(state, (1, 2, 0, 1), True), put_at(state, (1, 0, 0), (0,)),
                 put_at(state, (1, 0, 0), (0, 2, 0)), put_at(state, (1, 0), (0, 2)),
+                put_at((4, state[1]), (1, 0), ((0, 2), (3, 1))),
+                put_at((9, state[1]), (1, 2), ((2, 1), (8, 0), (7, 1))), put_at(state, (1, 2), ((2, 1), (2, 1))),
             ):
                 self.no((word,) + RING3 + (value, 0), (0, 1, 2))
             self.assertIs(is_sound((word,) + RING3 + (state, 0)), True)
@@ -142,7 +163,8 @@ class FormTest(unittest.TestCase):
     def test_channels(self):
         state = (3, (((0, 2),), (), ((2, 1),)))
         for word in ("blocked", "frees"):
-            for c, right in ((0, True), (1, False), (2, True), (3, False), (-1, False), (-3, False), (10 ** 3000, False)):
+            for c, right in ((0, True), (1, False), (2, True), (3, False), (-1, False), (-3, False),
+                    (10 ** 3000, False)):
                 self.assertIs(is_sound((word,) + RING3 + (state, c)), right)
             for c in (False, True, None, "0", (0,), ((0, 2),)):
                 self.no((word,) + RING3 + (state, c), (("go", 0, 1),))
@@ -151,7 +173,8 @@ class FormTest(unittest.TestCase):
     def test_longest(self):
         for word in ("worms calm", "worms jam"):
             for longest, right in (
-                (0, False), (1, True), (2, True), (999999, True), (1000000, True), (1000001, False), (-1, False), (True, False),
+                (0, False), (1, True), (2, True), (999999, True), (1000000, True), (1000001, False), (-1, False),
+                (True, False),
                 (False, False), (None, False), ("1", False), ((1,), False), (10 ** 3000, False),
             ):
                 self.assertIs(is_sound((word,) + CHAIN4 + (longest,)), right, longest)
@@ -164,8 +187,10 @@ class FormTest(unittest.TestCase):
         old = table_of(3, {(0, 2): (0,), (1, 2): (1,)})
         # An option of one of the tables behind which the new one has none.
         for first, second, right in (
-            (old, old, True), (old, table_of(3, {(0, 2): (2,)}), False), (old, table_of(3, {(0, 2): (2,), (1, 2): (1,)}), True),
-            (table_of(3, {(0, 2): (2,)}), old, True), (table_of(3, {(0, 2): (2,)}), table_of(3, {(0, 2): (0, 2)}), False),
+            (old, old, True), (old, table_of(3, {(0, 2): (2,)}), False),
+            (old, table_of(3, {(0, 2): (2,), (1, 2): (1,)}), True),
+            (table_of(3, {(0, 2): (2,)}), old, True), (table_of(3, {(0, 2): (2,)}), table_of(3, {(0, 2): (0, 2)}),
+            False),
             (empty_table(network), old, True), (old, empty_table(network), False),
             # Only with the new table it has to go on.
             (table_of(3, {(0, 2): (0,)}), old, True),
@@ -173,7 +198,8 @@ class FormTest(unittest.TestCase):
             for word in ("change calm", "change jams"):
                 self.assertIs(is_sound((word, network, first, second)), right)
             self.assertIs(check(("change calm", network, first, second), (1, 0, 0)), right)
-        for value in ((NETWORK, NEW), (NETWORK, OLD, NEW, NEW), (OLD, NETWORK, NEW), (NETWORK, OLD, None), (NETWORK, None, NEW)):
+        for value in ((NETWORK, NEW), (NETWORK, OLD, NEW, NEW), (OLD, NETWORK, NEW), (NETWORK, OLD, None),
+                (NETWORK, None, NEW)):
             self.no(("change calm",) + value)
             self.no(("change jams",) + value, ((0, 2), (2, 0), (5, 1)))
 
@@ -194,9 +220,12 @@ class FormTest(unittest.TestCase):
         self.assertIs(is_sound(("least",) + PAIR + ((),)), True)
         for edit in (
             ("put", 0, 1, 0), ("add", 0, 1), ("add", 0, 1, 0, 0), ("add", 0, 0, 0), ("add", 1, 0, 0), ("add", 0, 2, 0),
-            ("add", -1, 1, 0), ("add", 2, 1, 0), ("add", 0, -1, 0), ("add", 0, 1, 2), ("add", 0, 1, -2), ("add", 0, 1, 1),
-            ("add", False, 1, 0), ("add", 0, True, 0), ("add", 0, 1, False), (None, 0, 1, 0), ("", 0, 1, 0), ("Add", 0, 1, 0),
-            ("drop ", 0, 1, 0), (("add",), 0, 1, 0), ("add", "0", 1, 0), ("add", 0, None, 0), "add", 0, None, (), deep(70),
+            ("add", -1, 1, 0), ("add", 2, 1, 0), ("add", 0, -1, 0), ("add", 0, 1, 2), ("add", 0, 1, -2),
+            ("add", 0, 1, 1), ("add", 1, 0, -1), ("drop", 0, -2, 0),
+            ("add", False, 1, 0), ("add", 0, True, 0), ("add", 0, 1, False), (None, 0, 1, 0), ("", 0, 1, 0),
+            ("Add", 0, 1, 0),
+            ("drop ", 0, 1, 0), (("add",), 0, 1, 0), ("add", "0", 1, 0), ("add", 0, None, 0), "add", 0, None, (),
+            deep(70),
         ):
             for edits in ((edit,), ten[:9] + (edit,), (edit,) + RING_EDITS):
                 self.no(("least",) + PAIR + (edits,), ((), (0, 0), ()))

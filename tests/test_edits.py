@@ -68,7 +68,8 @@ class AreEditsTest(unittest.TestCase):
     def test_true_is_no_number(self):
         network = (2, ((0, 1, 1), (1, 0, 1)))
         self.assertIs(are_edits(network, (("add", 0, 1, 0), ("drop", 1, 0, 1))), True)
-        for path, wrong in (((0, 1), False), ((0, 2), True), ((0, 3), False), ((1, 1), True), ((1, 2), False), ((1, 3), True)):
+        for path, wrong in (((0, 1), False), ((0, 2), True), ((0, 3), False), ((1, 1), True), ((1, 2), False),
+                ((1, 3), True)):
             self.assertIs(are_edits(network, put_at((("add", 0, 1, 0), ("drop", 1, 0, 1)), path, wrong)), False)
 
     def test_other_lengths_and_kinds(self):
@@ -76,8 +77,10 @@ class AreEditsTest(unittest.TestCase):
             for wrong in WRONG_KINDS + WRONG_INTEGERS:
                 self.assertIs(are_edits(NETWORK, put_at(EDITS, path, wrong)), False, (path, wrong))
         for value in (
-            EDITS[0], (EDITS,), list(EDITS), ((),), (("add",),), (("add", 1, 2),), (("add", 1, 2, 2, 0),), (("add", 1, 2, 2, 2),),
-            ((1, 2, 2),), ((1, "add", 2, 2),), (("add", (1, 2, 2)),), (["add", 1, 2, 2],), ("add", 1, 2, 2), deep(80), deep(80, EDITS),
+            EDITS[0], (EDITS,), list(EDITS), ((),), (("add",),), (("add", 1, 2),), (("add", 1, 2, 2, 0),),
+            (("add", 1, 2, 2, 2),),
+            ((1, 2, 2),), ((1, "add", 2, 2),), (("add", (1, 2, 2)),), (["add", 1, 2, 2],), ("add", 1, 2, 2), deep(80),
+            deep(80, EDITS),
         ):
             self.assertIs(are_edits(NETWORK, value), False, value)
 
@@ -134,7 +137,8 @@ class EditedTest(unittest.TestCase):
         add, drop = ("add", 0, 1, 0), ("drop", 0, 1, 0)
         without = (((), ()), ((1,), ()))
         for edits, subset, there in (
-            ((add, drop), (0,), True), ((add, drop), (1,), False), ((add, drop), (0, 1), False), ((drop, add), (0, 1), True),
+            ((add, drop), (0,), True), ((add, drop), (1,), False), ((add, drop), (0, 1), False),
+            ((drop, add), (0, 1), True),
             ((drop, add), (0,), False), ((drop, add, drop), (0, 1, 2), False), ((drop, add, drop), (0, 1), True),
             ((drop, drop), (0, 1), False), ((add, add), (0, 1), True), ((drop, add, drop), (1, 2), False),
         ):

@@ -24,7 +24,8 @@ def plain_without(fabric, failed):
     n, channels = network
     cells = {(u, d): [c for c in table[u][d] if c not in failed] for u in range(n) for d in range(n)}
     while True:
-        ends = [(u, d, c) for (u, d), cell in cells.items() for c in cell if channels[c][1] != d and not cells[channels[c][1], d]]
+        ends = [(u, d, c) for (u, d),
+            cell in cells.items() for c in cell if channels[c][1] != d and not cells[channels[c][1], d]]
         if not ends:
             return (network, table_of(n, cells))
         u, d, c = ends[-1]
@@ -73,7 +74,8 @@ class AfterFailureTest(unittest.TestCase):
         gone, gone_elsewhere, kept = 0, 0, 0
         for fabric in SMALL + (TORUS, MESH):
             many = len(fabric[0][1])
-            for seed, state in enumerate([packed_state(fabric, seed) for seed in range(3)] + states_of(fabric, range(2))):
+            for seed, state in enumerate([packed_state(fabric, seed) for seed in range(3)] + states_of(fabric,
+                    range(2))):
                 rng = random.Random(seed)
                 for size in {0, 1, 2, many // 2, many}:
                     if size <= many:
@@ -117,7 +119,8 @@ class AfterFailureTest(unittest.TestCase):
         self.assertEqual(after_failure(CHAIN4, state, (0,))[1:], ((9, ((), ((0, 3),), ((7, 3),))), (4,)))
         # A packet that is home stays, even if nothing is served there.
         state = (3, (((2, 1), (0, 1)), ((1, 0),)))
-        self.assertEqual(after_failure(PAIR, state, (1,)), ((PAIR[0], (((), (0,)), ((), ()))), (3, (((2, 1), (0, 1)), ())), (1,)))
+        self.assertEqual(after_failure(PAIR, state, (1,)), ((PAIR[0], (((), (0,)), ((), ()))),
+            (3, (((2, 1), (0, 1)), ())), (1,)))
 
     def test_the_others_stay_in_their_order(self):
         # Channel 0 leads to the node 1, from which 2 or 3 lead on for the goals 2 and 3.
@@ -137,7 +140,8 @@ class AfterFailureTest(unittest.TestCase):
         cells = {(u, d): (u,) for u in range(3) for d in range(3) if u != d}
         fabric = (network, table_of(3, {**cells, (1, 2): (1, 3), (1, 0): (1, 3), (0, 2): (0,)}))
         self.assertIs(has_knot(fabric), True)
-        ranked = (network, table_of(3, {(0, 2): (0,), (1, 2): (1, 3), (1, 0): (1,), (2, 1): (2,), (0, 1): (0,), (2, 0): (2,)}))
+        ranked = (network, table_of(3, {(0, 2): (0,), (1, 2): (1, 3), (1, 0): (1,), (2, 1): (2,), (0, 1): (0,),
+            (2, 0): (2,)}))
         self.assertIs(has_knot(ranked), False)
         left = after_failure(ranked, empty_state(ranked), (3,))[0]
         self.assertIs(has_knot(left), True)
@@ -214,7 +218,8 @@ class LeastTest(unittest.TestCase):
             self.assertIs(has_knot(fabric), False)
             for k in range(5):
                 self.assertEqual(least_break(fabric, k), more if k >= beside else None)
-                self.assertEqual(least_of(fabric, k, lambda some: has_knot(plain_without(fabric, some))), least_break(fabric, k))
+                self.assertEqual(least_of(fabric, k, lambda some: has_knot(plain_without(fabric, some))),
+                    least_break(fabric, k))
 
     def test_a_fabric_with_a_knot(self):
         for fabric in (RING3, MIXED, ring(5), greatest()):
@@ -242,7 +247,8 @@ class LeastTest(unittest.TestCase):
         found = least_cut(fabric, 3)
         self.assertEqual(found, least_of(fabric, 3, lambda some: cut_off(fabric, some) != []))
         found = least_break(fabric, 2)
-        self.assertEqual(found, least_of(fabric, 2, lambda some: greatest_knot(case_of(without_channels(fabric, some)))))
+        self.assertEqual(found, least_of(fabric, 2, lambda some: greatest_knot(case_of(without_channels(fabric,
+            some)))))
         fabric = (network, shortest(network))
         # Each pair has one channel.
         self.assertEqual(least_cut(fabric, 2), (0,))

@@ -22,14 +22,22 @@ from calmfabric.wormknots import is_worm_knot
 SMALL = (RING3, PAIR, CHAIN4, EXAMPLE, DOUBLE, MIXED) + tuple(small_fabric(seed) for seed in range(40))
 KNOT_LINES = ["put 0 2 0", "put 1 0 1", "put 2 1 2"]
 BAD_LINES = (
-    "", " ", "  ", "State", "STATE", "states", "stat", "state ", " state", "state  ", "state 1", "blocked 0", "jam jam", "way", "way  0",
-    "way 0 1", "way 00", "way 01", "way -1", "way +1", "way x", "way 12345678", "way 00000000", "verdict ranks", "verdicts",
-    "tight 1", "drain 0", "worms", "worms 1 2", "worms 0", "worms 00", "worms 01", "worms 1000001", "worms 9999999", "worms 10000000",
-    "worms -1", "worms one", "add", "add 0 1", "add 0 1 0 0", "add 0 1 x", "add 0 1 00", "add 00 1 0", "add 0 1 10000000",
-    "drop", "drop 0 1", "drop 0 1 0 0", "drop 0  1 0", "drop 0 1 -1", "undo 1", "undo undo", "text 0", "texts", "bad", "ok", "no",
-    "nothing", "put", "put 0 1", "put 0 1 0 0", "put 0 1 00", "put 0 01 0", "put 0 1 0 ", " put 0 1 0", "put 0 1 10000000",
-    "put 0 1 -1", "go", "go 0", "go 0 1 2", "go 0  1", "go 0 x", "go 0,1", "out", "out 0 1", "out 00", "out 10000000", "out 1;",
-    "out 0; out 0", "pull 0 1", "open 0 1", "feed 0", "take 0", "switch 0", "journal", "fabric", "0", "1 2 3", "count 0", "~", "!",
+    "", " ", "  ", "State", "STATE", "states", "stat", "state ", " state", "state  ", "state 1", "blocked 0", "jam jam",
+    "way", "way  0",
+    "way 0 1", "way 00", "way 01", "way -1", "way +1", "way x", "way 12345678", "way 00000000", "verdict ranks",
+    "verdicts",
+    "tight 1", "drain 0", "worms", "worms 1 2", "worms 0", "worms 00", "worms 01", "worms 1000001", "worms 9999999",
+    "worms 10000000",
+    "worms -1", "worms one", "add", "add 0 1", "add 0 1 0 0", "add 0 1 x", "add 0 1 00", "add 00 1 0",
+    "add 0 1 10000000",
+    "drop", "drop 0 1", "drop 0 1 0 0", "drop 0  1 0", "drop 0 1 -1", "undo 1", "undo undo", "text 0", "texts", "bad",
+    "ok", "no",
+    "nothing", "put", "put 0 1", "put 0 1 0 0", "put 0 1 00", "put 0 01 0", "put 0 1 0 ", " put 0 1 0",
+    "put 0 1 10000000",
+    "put 0 1 -1", "go", "go 0", "go 0 1 2", "go 0  1", "go 0 x", "go 0,1", "out", "out 0 1", "out 00", "out 10000000",
+    "out 1;",
+    "out 0; out 0", "pull 0 1", "open 0 1", "feed 0", "take 0", "switch 0", "journal", "fabric", "0", "1 2 3",
+    "count 0", "~", "!",
     "way 1e3", "out 1_0", "add 0 1 0;", "drop -1 0 0", "x" * 10 ** 5, "out " + "1" * 10 ** 5, "way " + " " * 10 ** 4,
 )
 
@@ -144,7 +152,8 @@ def drawn_line(rng, session):
     if kind == "undo":
         return rng.choice(("undo", "undo", "drain"))
     if kind == "ask":
-        return rng.choice(("state", "blocked", "jam", "verdict", "tight", "text", "worms 1", "worms 3", "worms 1000000"))
+        return rng.choice(("state", "blocked", "jam", "verdict", "tight", "text", "worms 1", "worms 3",
+            "worms 1000000"))
     if kind == "number":
         return rng.choice(("way {}", "out {}")).format(rng.randrange(m + 2))
     word = rng.choice(("put", "go", "add", "drop"))
@@ -172,10 +181,14 @@ class DrawnTest(unittest.TestCase):
                 self.assertIs(is_state(session.fabric(), session.state()), True)
         self.assertGreater(min(words.values()), 40, words)
         for key in (
-            ("put", "ok"), ("put", "no"), ("go", "ok"), ("go", "no"), ("out", "ok"), ("out", "no"), ("way", "way"), ("way", "empty"),
-            ("way", "stop"), ("way", "bad"), ("blocked", "calm"), ("blocked", "blocked"), ("verdict", "ranks"), ("verdict", "knot"),
-            ("tight", "ranks"), ("tight", "knot"), ("drain", "drained"), ("drain", "no"), ("worms", "knot"), ("worms", "none"),
-            ("add", "ok"), ("add", "no"), ("add", "bad"), ("drop", "ok"), ("drop", "no"), ("drop", "bad"), ("undo", "ok"), ("undo", "nothing"),
+            ("put", "ok"), ("put", "no"), ("go", "ok"), ("go", "no"), ("out", "ok"), ("out", "no"), ("way", "way"),
+            ("way", "empty"),
+            ("way", "stop"), ("way", "bad"), ("blocked", "calm"), ("blocked", "blocked"), ("verdict", "ranks"),
+            ("verdict", "knot"),
+            ("tight", "ranks"), ("tight", "knot"), ("drain", "drained"), ("drain", "no"), ("worms", "knot"),
+            ("worms", "none"),
+            ("add", "ok"), ("add", "no"), ("add", "bad"), ("drop", "ok"), ("drop", "no"), ("drop", "bad"),
+            ("undo", "ok"), ("undo", "nothing"),
         ):
             self.assertGreater(answers.get(key, 0), 0, key)
 
@@ -266,8 +279,10 @@ class LineTest(unittest.TestCase):
     def test_steps(self):
         session = Session(PAIR)
         for line, answer in (
-            ("put 0 1 0", "ok"), ("put 0 1 1", "no"), ("put 1 1 0", "no"), ("put 2 1 0", "no"), ("put 0 2 0", "no"), ("put 0 1 2", "no"),
-            ("put 9999999 1 0", "no"), ("put 0 1 9999999", "no"), ("go 0 1", "no"), ("go 1 0", "no"), ("go 2 0", "no"), ("go 0 2", "no"),
+            ("put 0 1 0", "ok"), ("put 0 1 1", "no"), ("put 1 1 0", "no"), ("put 2 1 0", "no"), ("put 0 2 0", "no"),
+            ("put 0 1 2", "no"),
+            ("put 9999999 1 0", "no"), ("put 0 1 9999999", "no"), ("go 0 1", "no"), ("go 1 0", "no"), ("go 2 0", "no"),
+            ("go 0 2", "no"),
             ("go 9999999 9999999", "no"), ("out 1", "no"), ("out 2", "no"), ("out 9999999", "no"), ("put 0 1 0", "ok"),
             ("put 0 1 0", "ok"), ("put 0 1 0", "no"), ("out 0", "ok"), ("put 0 0 0", "no"),
         ):
@@ -486,7 +501,8 @@ class UndoTest(unittest.TestCase):
     def test_after_each_kind_of_line(self):
         session = Session(CHAIN4)
         states = [(session.fabric(), session.state())]
-        lines = ["put 2 3 2", "out 2", "put 0 3 0", "go 0 1", "put 0 3 0", "drain", "drop 0 3 0", "add 0 3 0", "put 1 3 1"]
+        lines = ["put 2 3 2", "out 2", "put 0 3 0", "go 0 1", "put 0 3 0", "drain", "drop 0 3 0", "add 0 3 0",
+            "put 1 3 1"]
         for line in lines:
             self.assertIn(session.enter(line)[0], ("ok", "drained 5"))
             states.append((session.fabric(), session.state()))
@@ -494,7 +510,8 @@ class UndoTest(unittest.TestCase):
         while len(states) > 1:
             self.assertEqual((session.fabric(), session.state()), states.pop())
             # Lines that change nothing are not taken back.
-            for line in ("state", "jam", "go 5 5", "bad", "text", "verdict", "way 0", "blocked", "tight", "worms 1", ""):
+            for line in ("state", "jam", "go 5 5", "bad", "text", "verdict", "way 0", "blocked", "tight", "worms 1",
+                    ""):
                 session.enter(line)
             self.assertEqual(session.enter("undo"), ["ok"])
             self.assertEqual(session.journal(), lines[:len(states) - 1])
@@ -516,7 +533,8 @@ class UndoTest(unittest.TestCase):
 class ListTest(unittest.TestCase):
     def test_lists_that_a_caller_changes(self):
         session = entered(RING3, KNOT_LINES)
-        for line in ("state", "blocked", "jam", "way 0", "verdict", "tight", "worms 2", "text", "", "put 0 2 0", "drain", "add 0 0 0"):
+        for line in ("state", "blocked", "jam", "way 0", "verdict", "tight", "worms 2", "text", "", "put 0 2 0",
+                "drain", "add 0 0 0"):
             first = session.enter(line)
             told = list(first)
             first.append("more")

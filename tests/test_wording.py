@@ -13,14 +13,19 @@ from calmfabric.wording import print_knot, print_script, print_step, print_worm_
 from calmfabric.wormknots import find_worm_knot
 
 STEPS = (
-    ("put", 0, 2, 1), ("go", 0, 1), ("out", 3), ("out", 0), ("go", 10, 9), ("put", 9999999, 0, 1000000), ("out", 9999999),
+    ("put", 0, 2, 1), ("go", 0, 1), ("out", 3), ("out", 0), ("go", 10, 9), ("put", 9999999, 0, 1000000),
+    ("out", 9999999),
 )
 WRONG_STEPS = (
-    "", " ", "put", "go", "out", "nothing", "put 0 1", "put 0 1 2 3", "go 1", "go 1 2 3", "out 1 2", "out", "out ", "go 0  1",
-    "go  0 1", " go 0 1", "go 0 1 ", "go 0\t1", "go\n0 1", "go 0 1\n", "\ngo 0 1", "Go 0 1", "GO 0 1", "gone 0 1", "og 0 1",
+    "", " ", "put", "go", "out", "nothing", "put 0 1", "put 0 1 2 3", "go 1", "go 1 2 3", "out 1 2", "out", "out ",
+    "go 0  1",
+    "go  0 1", " go 0 1", "go 0 1 ", "go 0\t1", "go\n0 1", "go 0 1\n", "\ngo 0 1", "Go 0 1", "GO 0 1", "gone 0 1",
+    "og 0 1",
     "go 01 2", "go 0 00", "out 007", "go -1 2", "go +1 2", "go 1 -0", "out 12345678", "out 00000001", "out 10000000",
-    "go 1.0 2", "go 1,2", "go 1;2", "go a b", "out 0x1", "out 1_0", "out 1e3", "out None", "go ('0', 1)", "switch 1", "open 0 1",
-    "feed 1", "take 1", "pull 0 1", "0 1", "go:0 1", "out 1;", ";out 1", "out " + "9" * 5000, "x" * 5000, "state", "way 1",
+    "go 1.0 2", "go 1,2", "go 1;2", "go a b", "out 0x1", "out 1_0", "out 1e3", "out None", "go ('0', 1)", "switch 1",
+    "open 0 1",
+    "feed 1", "take 1", "pull 0 1", "0 1", "go:0 1", "out 1;", ";out 1", "out " + "9" * 5000, "x" * 5000, "state",
+    "way 1",
     "out \u0661", "out \u00b2", "out\u00a01", "put 0 1 2;", "put 0 1 -",
 )
 
@@ -32,7 +37,8 @@ def plain_text(step):
 class PrintTest(unittest.TestCase):
     def test_steps(self):
         for step, text in (
-            (("put", 0, 2, 1), "put 0 2 1"), (("go", 0, 1), "go 0 1"), (("out", 3), "out 3"), (("put", 63, 0, 399), "put 63 0 399"),
+            (("put", 0, 2, 1), "put 0 2 1"), (("go", 0, 1), "go 0 1"), (("out", 3), "out 3"),
+            (("put", 63, 0, 399), "put 63 0 399"),
         ):
             self.assertEqual(print_step(step), text)
 
@@ -98,8 +104,10 @@ class ReadTest(unittest.TestCase):
                 self.bad(read_script, text + "; out 1")
                 self.bad(read_script, "out 1; " + text + "; go 0 1")
         for text in (
-            "out 1;out 2", "out 1 ; out 2", "out 1;  out 2", "out 1; ", "; out 1", "out 1;", ";", "; ", "out 1; ; out 2", "out 1;; out 2",
-            "out 1, out 2", "out 1\nout 2", "nothing;", "nothing; out 1", "out 1; nothing", "nothing nothing", "nothing; nothing",
+            "out 1;out 2", "out 1 ; out 2", "out 1;  out 2", "out 1; ", "; out 1", "out 1;", ";", "; ",
+            "out 1; ; out 2", "out 1;; out 2",
+            "out 1, out 2", "out 1\nout 2", "nothing;", "nothing; out 1", "out 1; nothing", "nothing nothing",
+            "nothing; nothing",
             "Nothing", "nothing ", " nothing", "nothing 1", "not", "nothings", "out 1; put 0 1",
         ):
             self.bad(read_script, text)

@@ -2,11 +2,14 @@ import itertools
 import random
 import unittest
 
-from samples import CHAIN4, MIXED, NO_OPTIONS, PAIR, RING3, WRONG_INTEGERS, WRONG_KINDS, deep, greatest, paths_of, put_at, ring
+from samples import (
+    CHAIN4, MIXED, NO_OPTIONS, PAIR, RING3, WRONG_INTEGERS, WRONG_KINDS, deep, greatest, paths_of,
+    put_at, ring,
+)
 from verdict_samples import ESCAPE, PLANE
 from worlds import EXAMPLE, TORUS, small_fabric
 from worm_samples import (
-    LONG, RANKED, ROW, SEVERAL, Flits, fitting_knot, plain_is_worm_knot, plain_least, plain_options, plain_ways,
+    LONG, RANKED, ROW, SEVERAL, Flits, fitting_knot, plain_is_worm_knot, plain_least, plain_ways,
 )
 
 from calmfabric.cases import case_of
@@ -16,7 +19,8 @@ from calmfabric.wormplay import is_worm_possible, play_worms
 from calmfabric.worms import MAX_FLITS, empty_worms
 from calmfabric.wormtrees import worm_verdict
 
-SMALL = tuple(fabric for fabric in SEVERAL if len(fabric[0][1]) <= 9) + tuple(small_fabric(seed) for seed in range(30, 70))
+SMALL = tuple(fabric for fabric in SEVERAL if len(fabric[0][1]) <= 9) + tuple(small_fabric(seed) for seed in range(30,
+    70))
 LENGTHS = (1, 2, 3, 4, 6, 7, MAX_FLITS)
 # Of the two ways one has two channels; its worm needs three flits.
 TWO_WAYS = find_worm_knot(RANKED[3], 3)
@@ -70,7 +74,8 @@ class IsKnotTest(unittest.TestCase):
         tried, longer = 0, 0
         for fabric in SMALL:
             for knot, need in knots_of(fabric):
-                values = [knot[:k] + knot[k + 1:] for k in range(len(knot))] + [knot[::-1], knot + knot[-1:], knot[:1] + knot]
+                values = [knot[:k] + knot[k + 1:] for k in range(len(knot))] + [knot[::-1], knot + knot[-1:],
+                    knot[:1] + knot]
                 values += [knot[:k] + knot[k:k + 1] + knot[k:] for k in range(len(knot))]
                 pairs = all_pairs(fabric)
                 values += [tuple(sorted(knot + (pair,))) for pair in pairs]
@@ -140,7 +145,8 @@ class IsKnotTest(unittest.TestCase):
                     self.assertIs(is_worm_knot(fabric, longest, put_at(knot, path, wrong)), False, (path, wrong))
             for value in (list(knot), knot[0], (knot,), deep(80, knot), put_at(knot, (0,), list(knot[0]))):
                 self.assertIs(is_worm_knot(fabric, longest, value), False)
-            for value in (put_at(knot, (0,), knot[0] + (0,)), put_at(knot, (0,), knot[0][:1]), put_at(knot, (0,), knot[0][::-1])):
+            for value in (put_at(knot, (0,), knot[0] + (0,)), put_at(knot, (0,), knot[0][:1]),
+                    put_at(knot, (0,), knot[0][::-1])):
                 self.assertIs(is_worm_knot(fabric, longest, value), False)
 
     def test_true_is_no_number(self):
@@ -153,7 +159,8 @@ class ScriptTest(unittest.TestCase):
     def test_the_steps_in_order(self):
         network = (3, ((0, 1, 2), (1, 2, 1), (2, 0, 3)))
         self.assertEqual(
-            worm_knot_script(network, ((0, (1, 2)), (2, (0,)))), (("put", 1, 0, 1, 4), ("open", 1, 2), ("put", 0, 2, 0, 1)),
+            worm_knot_script(network, ((0, (1, 2)), (2, (0,)))),
+            (("put", 1, 0, 1, 4), ("open", 1, 2), ("put", 0, 2, 0, 1)),
         )
         self.assertEqual(
             worm_knot_script(RANKED[5][0], ((3, (1, 7, 0)),)), (("put", 1, 3, 1, 7), ("open", 1, 7), ("open", 7, 0)),
