@@ -16,6 +16,14 @@ def reason_against(network, table):
     return None if knot is None else ("knot", knot)
 
 
+def reason_near(network, table, known):
+    """Return a reason against a table, or None; it is the known one if that is a reason against this table, too."""
+    # Most knots outlast a few edits, and to look at one again is far less work than to find one.
+    if known is not None and is_reason(network, table, known):
+        return known
+    return reason_against(network, table)
+
+
 def is_reason(network, table, value):
     """Tell whether any value is a reason against the table."""
     if not is_tuple_of(value, 2):
@@ -36,12 +44,14 @@ def least_change(fabric, edits):
     """Return the answer: the least change, its ranks, and a reason against each subset before it."""
     network, table = fabric
     reasons = []
+    known = None
     for subset in subsets(len(edits)):
         now = edited(table, edits, subset)
-        reason = reason_against(network, now)
+        reason = reason_near(network, now, known)
         if reason is None:
             return (subset, least_ranks(case_of((network, now))), tuple(reasons))
         reasons.append(reason)
+        known = reason if reason[0] == "knot" else known
     return (None, (), tuple(reasons))
 
 
@@ -77,11 +87,15 @@ def needed_changes(fabric, edits):
     """List the calm subsets no part of which is calm, in order."""
     network, table = fabric
     needed = []
+    known = None
     for subset in subsets(len(edits)):
         # The parts of a subset come before it, and a part that is calm has a needed one among its own.
         if not any([is_inside(part, subset) for part in needed]):
-            if reason_against(network, edited(table, edits, subset)) is None:
+            reason = reason_near(network, edited(table, edits, subset), known)
+            if reason is None:
                 needed.append(subset)
+            elif reason[0] == "knot":
+                known = reason
     return needed
 
 
